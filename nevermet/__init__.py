@@ -1,0 +1,1 @@
+"""Nevermet: one answer, though the writers never met."""

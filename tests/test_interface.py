@@ -1,0 +1,108 @@
+"""That the names, arguments and classes of the interface exist as they are written, and the examples hold."""
+
+import importlib
+import inspect
+import unittest
+
+from nevermet.houses import House
+from nevermet.packages import Package
+from nevermet.parting import check_parted
+from nevermet.rules import Rule
+from nevermet.term import Term
+from nevermet.unify import meet, unify
+
+FUNCTIONS = {
+    "names": {"is_name": "(thing)", "is_word": "(thing)", "is_variable": "(thing)"},
+    "terms": {"is_term": "(thing)", "is_question": "(thing)", "size": "(term)", "depth": "(term)", "head_of": "(term)",
+              "pieces": "(term)", "variables": "(*terms)", "words": "(*terms)", "filled": "(term, fill)",
+              "renamed": "(terms)"},
+    "matching": {"matched": "(ones, others)", "is_instance": "(ones, others)", "are_variants": "(ones, others)"},
+    "unify": {"unify": "(ones, others)", "meet": "(ones, others)"},
+    "parting": {"parted": "(ones, others)", "check_parted": "(ones, others, thing)"},
+    "rules": {"beneath": "(rule, other)", "is_expression": "(thing)", "Rule": "(head, *conditions, **members)",
+              "SoftRule": "(head, *conditions, **members)"},
+    "term": {"Term": "(term)"},
+    "packages": {"Package": "(name, *needs, edition=1, sorts=(), traits=(), rules=(), functions=())"},
+    "houses": {"House": "(*packages)"},
+    "functions": {"Function": "(name, *variables, wants=(), body=())"},
+    "texts": {"term_text": "(term)", "rule_text": "(rule)", "function_text": "(function)", "package_text": "(package)",
+              "table": "(house)"},
+    "errors": {"NeverError": None, "InvalidTerm": "(thing)", "InvalidRule": "(reason)", "InvalidFunction": "(reason)",
+               "InvalidPackage": "(field, index)", "NoHouse": "(reason, name)", "Refused": "(complaints)",
+               "NotNext": "(field, index)", "Mismatch": "(name, other)", "BadPaper": "(index)", "InvalidText": "(line)",
+               "InvalidCommand": "(word)", "InvalidLimit": "(limit)", "UnknownWord": "(word)", "NoAnswer": "(question)",
+               "NoEdition": "(name, edition)", "NothingToUndo": "()", "TooMany": "(limit)"},
+}
+METHODS = {
+    ("term", "Term"): {"read": "(text)", "at": "(self, **fill)", "is_instance": "(self, other)",
+                       "__call__": "(self, first=None, second=None, third=None)", "__and__": None, "__eq__": None,
+                       "__contains__": None, "__str__": None, "__repr__": None, "shape": None, "size": None,
+                       "variables": None, "MOST": None},
+    ("rules", "Rule"): {"of": "(head, conditions, members)", "fills": "(self, question)",
+                        "conditions_for": "(self, question)", "__eq__": None, "__str__": None, "head": None,
+                        "conditions": None, "members": None, "soft": None, "trait": None, "places": None,
+                        "first_bare": None},
+    ("rules", "SoftRule"): {"of": "(head, conditions, members)"},
+    ("packages", "Package"): {
+        "later": "(self, *needs, sorts=(), traits=(), rules=(), functions=())",
+        "of": "(name, needs, *, edition=1, sorts=(), traits=(), rules=(), functions=())", "read": "(text)",
+        "__eq__": None, "__str__": None, "words": None, "name": None, "needs": None, "edition": None, "sorts": None,
+        "traits": None, "rules": None, "functions": None},
+    ("houses", "House"): {
+        "names": None, "__getitem__": None, "__contains__": None, "of": "(packages)", "__len__": None, "__eq__": None,
+        "__repr__": None, "sees": "(self, name)", "view": "(self, name)", "owner_of": "(self, word)",
+        "sort_of": "(self, word)", "places_of": "(self, word)", "rules_for": "(self, trait, *, by=None)",
+        "rule": "(self, name, index)", "with_package": "(self, package)"},
+    ("functions", "Function"): {"of": "(name, variables, wants, body)", "__eq__": None, "__str__": None, "name": None,
+                                "variables": None, "wants": None, "body": None},
+}
+
+
+class Interface(unittest.TestCase):
+    def test_functions_and_classes(self):
+        for file, names in FUNCTIONS.items():
+            module = importlib.import_module("nevermet." + file)
+            for name, signature in names.items():
+                thing = getattr(module, name)
+                self.assertEqual(thing.__module__, module.__name__, name)
+                if signature is not None:
+                    self.assertEqual(str(inspect.signature(thing)), signature, name)
+
+    def test_methods_stand_in_the_class_itself(self):
+        for (file, name), methods in METHODS.items():
+            kind = getattr(importlib.import_module("nevermet." + file), name)
+            for method, signature in methods.items():
+                self.assertIn(method, vars(kind), name)
+                if signature is not None:
+                    self.assertEqual(str(inspect.signature(getattr(kind, method))), signature, (name, method))
+
+
+class Examples(unittest.TestCase):
+    def test_packages_and_houses(self):
+        whole = ("base.int",)
+        show = Rule(("base.show", ("base.list", "T")), ("base.show", "T"))
+        base = Package("base", sorts=[("int", 0), ("list", 1)], traits=[("show", 1, False, ())],
+                       rules=[Rule(("base.show", whole)), show])
+        shop = Package("shop", "base", sorts=[("item", 0)], rules=[Rule(("base.show", ("shop.item",)))])
+        house = House(base, shop)
+        self.assertEqual([house.sees("shop"), list(house.rules_for("base.show")),
+                          list(house.rules_for("base.show", by="base"))],
+                         [("base",), [("base", 0), ("base", 1), ("shop", 0)], [("base", 0), ("base", 1)]])
+        self.assertEqual(repr(house), "House(base 1, shop 1)")
+
+    def test_terms(self):
+        row, number = Term.read("base.list(T)"), Term.read("base.int")
+        self.assertEqual([row.at(T=number).is_instance(row), number in row.at(T=number),
+                          str(Term.read("base.list")(row)), row.is_instance(number)],
+                         [True, True, "base.list(base.list(T))", False])
+
+    def test_unifiers(self):
+        steps = [("T", ("base.list", "U"), ("place", 0)), ("U", "T", ("place", 1)),
+                 ("T", ("base.list", "T"), ("put", 0, 1, 0))]
+        self.assertEqual([meet(("T", "T"), (("base.list", "T"), "U")), unify(("T", "U"), (("base.list", "U"), "T")),
+                          check_parted(("T", "U"), (("base.list", "U"), "T"), steps)],
+                         [(("base.list", "V0"), ("base.list", "V0")), None, True])
+
+
+if __name__ == "__main__":
+    unittest.main()
