@@ -18,7 +18,7 @@ def closed(ones, others):
     """
     nodes, roots = coded((*ones, *others))
     many = len(ones)
-    steps = [(roots[at], roots[many + at], ("place", at)) for at in range(many)]
+    steps = [(roots[k], roots[many + k], ("place", k)) for k in range(many)]
     bound = {}
     seen = {}
     at = 0

@@ -154,8 +154,6 @@ class Package:
         wrong = wrong_needs(self._name, needs, self._needs)
         if wrong is not None:
             raise InvalidPackage(wrong[0], wrong[1])
-        if self._edition == LAST_EDITION:
-            raise InvalidPackage("edition", None)
         return Package.of(self._name, (*self._needs, *needs), edition=self._edition + 1,
                           sorts=behind(self._sorts, sorts), traits=behind(self._traits, traits),
                           rules=behind(self._rules, rules), functions=behind(self._functions, functions))

@@ -46,8 +46,8 @@ def pruned(steps, last):
             needed[at] = True
             waiting.extend(earlier(steps[at][2]))
     kept = sorted(needed)
-    places = {at: k for k, at in enumerate(kept)}
-    return [(steps[at][0], steps[at][1], moved(steps[at][2], places)) for at in kept]
+    places = {old: new for new, old in enumerate(kept)}
+    return [(steps[old][0], steps[old][1], moved(steps[old][2], places)) for old in kept]
 
 
 def ring_through(needs, start):

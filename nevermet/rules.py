@@ -28,7 +28,8 @@ def are_members(things):
 def has_variables(head, conditions, members):
     """Whether the head has each variable of the conditions and members."""
     known = variables_in(head[1:])
-    return all([name in known for name in variables_in([*conditions, *[members[name] for name in members]])])
+    expressions = [members[name] for name in members]
+    return all([variable in known for variable in variables_in([*conditions, *expressions])])
 
 
 def has_pieces(head, conditions):

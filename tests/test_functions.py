@@ -112,7 +112,10 @@ class Wrong(unittest.TestCase):
         self.assertEqual(reason("f", wants=[WANT]), "free")
         self.assertEqual(reason("f", "U", wants=[WANT]), "free")
         self.assertEqual(reason("f", body=[ASK]), "free")
-        self.assertEqual(reason("f", "U", body=[("call", "base.tell", "U", listed("T"))]), "free")
+        for step in (("call", "base.tell", "T"), ("call", "base.tell", "U", listed("T")), ("call", "base.tell", INT, INT, "T"),
+                     ("ask", ("base.eq", "U", "T")), ("ask", ("base.eq", listed("T"), "U"))):
+            self.assertEqual(reason("f", "U", body=[step]), "free", step)
+            self.assertEqual(reason("f", "U", body=[("call", "base.tell", "U"), step]), "free", step)
         self.assertEqual(reason("f", "A", "B", "C", wants=[("a.b", "A", "B", "C")], body=[("ask", ("a.b", "D"))]), "free")
         self.assertEqual(Function("f", "T", "U", body=[("call", "base.tell", "U")]).variables, ("T", "U"))
 

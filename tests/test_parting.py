@@ -145,6 +145,12 @@ class Checked(unittest.TestCase):
             steps = [(one, other, ("place", 0)), ("T", "U", ("part", 0, 0)), (INT, NIL, ("place", 1))]
             self.assertEqual(index_of((one, INT), (other, NIL), steps), 1, (one, other))
 
+    def test_part_of_a_variable_with_digits(self):
+        for one, other, step in (("T12", listed("U"), ("1", "U")), (listed("U"), "T12", ("U", "1")),
+                                 ("T12", "U34", ("1", "3"))):
+            steps = [(one, other, ("place", 0)), (*step, ("part", 0, 0)), (INT, NIL, ("place", 1))]
+            self.assertEqual(index_of((one, INT), (other, NIL), steps), 1, (one, other))
+
     def test_join(self):
         ones, others = ("T", listed("A"), "T"), (INT, "T", "U")
         before = [("T", INT, ("place", 0)), (listed("A"), "T", ("place", 1)), ("T", "U", ("place", 2))]

@@ -105,6 +105,13 @@ class Wrong(unittest.TestCase):
         names = {"members": "T", "rule": "T", "if": "T", "with": "T", "abcdefgh": "T"}
         self.assertEqual(Rule(HEAD, **names).members, names)
 
+    def test_of_what_is_no_row_and_no_dict(self):
+        for kind in (Rule, SoftRule):
+            for thing in (None, True, "", "T", {}, {ASK: 1}):
+                self.assertEqual(raised(InvalidRule, kind.of, HEAD, thing, {}).reason, "conditions")
+            for thing in (None, True, "", [], (), [("item", "T")]):
+                self.assertEqual(raised(InvalidRule, kind.of, HEAD, (), thing).reason, "members")
+
     def test_variables(self):
         self.assertEqual(reason(HEAD, ("base.show", "U")), "variables")
         self.assertEqual(reason(HEAD, ASK, ("base.eq", "T", listed("U"))), "variables")
