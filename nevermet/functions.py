@@ -88,6 +88,11 @@ class Function:
         """The name."""
         return self._name
 
+    @name.setter
+    def name(self, value):
+        # Errors keep attributes of this name, so there must be a setter; a function never changes.
+        raise AttributeError("a function keeps its name")
+
     @property
     def variables(self):
         """The tuple of the variables."""

@@ -21,6 +21,18 @@ def matched(ones, others):
     return fill
 
 
+def clash(ones, others):
+    """Whether unlike words stand at one place in two tuples of terms, so that there is no unifier."""
+    waiting = list(zip(ones, others))
+    while waiting:
+        one, other = waiting.pop()
+        if not isinstance(one, str) and not isinstance(other, str):
+            if one[0] != other[0] or len(one) != len(other):
+                return True
+            waiting.extend(list(zip(one[1:], other[1:])))
+    return False
+
+
 def is_instance(ones, others):
     """Whether `ones` is an instance of `others`."""
     return matched(others, ones) is not None

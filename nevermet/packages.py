@@ -163,6 +163,11 @@ class Package:
         """The name."""
         return self._name
 
+    @name.setter
+    def name(self, value):
+        # Errors keep attributes of this name, so there must be a setter; a package never changes.
+        raise AttributeError("a package keeps its name")
+
     @property
     def needs(self):
         """The ascending tuple of the names of the needed packages."""
@@ -172,6 +177,11 @@ class Package:
     def edition(self):
         """The number of the edition."""
         return self._edition
+
+    @edition.setter
+    def edition(self, value):
+        # As for the name.
+        raise AttributeError("a package keeps its edition")
 
     @property
     def sorts(self):

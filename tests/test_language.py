@@ -13,7 +13,7 @@ LIBRARY = {"heapq": {"heappush", "heappop", "heapify", "heapreplace", "heappushp
 BUILTINS = set("""len range enumerate zip min max sum abs sorted reversed int str bool list tuple dict set isinstance
     ord repr any all divmod iter next map property classmethod staticmethod super NotImplemented Exception ValueError
     TypeError KeyError IndexError LookupError ZeroDivisionError ArithmeticError OverflowError RuntimeError
-    NotImplementedError StopIteration""".split())
+    NotImplementedError AttributeError StopIteration""".split())
 BUILTIN_METHODS = set("""append clear copy count endswith extend find get index insert isalnum isalpha isdigit islower
     isspace isupper items join keys ljust lower lstrip partition pop remove replace reverse rfind rjust rpartition rsplit
     rstrip setdefault split splitlines startswith strip update upper values zfill bit_length add discard""".split())
@@ -175,7 +175,8 @@ class Statements(unittest.TestCase):
             for node in ast.walk(tree):
                 if isinstance(node, (ast.FunctionDef, ast.ClassDef)):
                     for one in node.decorator_list:
-                        self.assertIn(ast.unparse(one), ("property", "classmethod", "staticmethod"), name)
+                        self.assertIn(ast.unparse(one), ("property", "classmethod", "staticmethod",
+                                                         f"{node.name}.setter"), name)
                     if node.name.startswith("__"):
                         self.assertIn(node.name, SPECIAL, name)
 
@@ -206,9 +207,12 @@ class Statements(unittest.TestCase):
             for kind in [node for node in tree.body if isinstance(node, ast.ClassDef)]:
                 own = set()
                 for node in [node for node in kind.body if isinstance(node, ast.FunctionDef)]:
+                    shown = [ast.unparse(one) for one in node.decorator_list]
+                    if shown == [f"{node.name}.setter"]:
+                        self.assertIn(node.name, own, kind.name)
+                        continue
                     self.assertNotIn(node.name, own, kind.name)
                     own.add(node.name)
-                    shown = [ast.unparse(one) for one in node.decorator_list]
                     (properties if "property" in shown else methods).add(node.name)
                 for node in ast.walk(kind):
                     if isinstance(node, ast.Attribute) and isinstance(node.ctx, ast.Store):
@@ -216,6 +220,31 @@ class Statements(unittest.TestCase):
                         attributes.add(node.attr)
         self.assertEqual(sorted(properties & (methods | BUILTIN_METHODS)), [])
         self.assertEqual(sorted(attributes & methods), [])
+
+    def test_properties_that_are_assigned_have_setters(self):
+        """The rule goes by the name of the attribute, whatever the class of the object that is assigned to."""
+        lacking, stored = set(), set()
+        for _, tree in trees():
+            for node in ast.walk(tree):
+                if isinstance(node, ast.Attribute) and isinstance(node.ctx, (ast.Store, ast.Del)):
+                    stored.add(node.attr)
+                if isinstance(node, ast.ClassDef):
+                    shown = {(one.name, ast.unparse(mark)) for one in node.body if isinstance(one, ast.FunctionDef)
+                             for mark in one.decorator_list}
+                    lacking |= {name for name, mark in shown if mark == "property"} - {
+                        name for name, mark in shown if mark == f"{name}.setter"}
+        self.assertEqual(sorted(stored & lacking), [])
+
+    def test_stars_in_calls(self):
+        """Behind a star in a call stands a name, an attribute off a name, or a literal."""
+        for name, tree in trees():
+            for node in [node for node in ast.walk(tree) if isinstance(node, ast.Call)]:
+                behind = [one.value for one in node.args if isinstance(one, ast.Starred)]
+                behind += [one.value for one in node.keywords if one.arg is None]
+                for value in behind:
+                    self.assertRegex(ast.unparse(value), r"^[a-z_]+(\.[a-z_]+)?$", (name, node.lineno))
+                self.assertTrue(all(one.arg is None for one in node.keywords) or None not in
+                                [one.arg for one in node.keywords], (name, node.lineno))
 
 
 if __name__ == "__main__":

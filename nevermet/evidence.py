@@ -1,0 +1,26 @@
+"""Evidence, and rounds."""
+
+from nevermet.errors import NoAnswer
+from nevermet.papers import by_mention
+from nevermet.reach import explored
+from nevermet.verdicts import answer, held_rounds, settled
+
+
+def evidence(house, question, *, by=None):
+    """The evidence for a ground question."""
+    net = explored(house, question, by)
+    held, _ = settled(net)
+    if 0 not in held:
+        raise NoAnswer(question)
+    rounds = held_rounds(net, held)
+    answers = {at: answer(net, held, at) for at in held}
+    indexes = by_mention({at: answers[at][2] for at in held})
+    return tuple([(net.questions[at], rounds[at], answers[at][0], tuple([indexes[one] for one in answers[at][2]]))
+                  for at in indexes])
+
+
+def round_of(house, question):
+    """The round of a ground question that holds, or of one that is refuted."""
+    net = explored(house, question, None)
+    held, rounds = settled(net)
+    return held_rounds(net, held)[0] if 0 in held else rounds[0]

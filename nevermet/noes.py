@@ -1,0 +1,47 @@
+"""The papers of noes, which are refutations and lasting tables, and what their checks look at."""
+
+from nevermet.kinds import is_index, is_integer
+from nevermet.papers import by_mention, has_less, is_mention
+from nevermet.terms import renamed_question
+
+
+def reason_of(net, rounds, at, use):
+    """The reason against a rule that fits a refuted question: (package, index, condition, number in the net)."""
+    pair, _, asked = use
+    refuted = [condition for condition, number in enumerate(asked) if rounds[number] is not None]
+    least = min([rounds[asked[condition]] for condition in refuted])
+    first = [condition for condition in refuted if not net.marks[at] or rounds[asked[condition]] == least][0]
+    return (*pair, first, asked[first])
+
+
+def no_paper(net, rounds):
+    """The tuple of the entries for the first question of a net, which is refuted, and for what it needs."""
+    refuted = [at for at, count in enumerate(rounds) if count is not None]
+    reasons = {at: [reason_of(net, rounds, at, use) for use in net.uses[at]] for at in refuted}
+    indexes = by_mention({at: [reason[3] for reason in reasons[at]] for at in refuted})
+    return tuple([(net.questions[at], rounds[at], tuple([(*reason[:3], indexes[reason[3]]) for reason in reasons[at]]))
+                  for at in indexes])
+
+
+def is_reason(paper, thing, pair, conditions, lesser):
+    """Whether any value is a right reason against the rule with this pair, with these conditions, filled.
+
+    Lesser is the round below which the mentioned entry must be, or None.
+    """
+    if not isinstance(thing, tuple) or len(thing) != 4:
+        return False
+    name, index, condition, number = thing
+    if not is_integer(index) or (name, index) != pair or not is_index(condition, len(conditions)):
+        return False
+    if not is_mention(paper, number, renamed_question(conditions[condition])):
+        return False
+    return lesser is None or has_less(paper[number], lesser)
+
+
+def are_reasons(paper, things, question, rules, lesser):
+    """Whether any value has a right reason against each of these rules that fits a question, in order."""
+    fitting = [(pair, rule.conditions_for(question)) for pair, rule in rules if rule.fills(question) is not None]
+    if not isinstance(things, tuple) or len(things) != len(fitting):
+        return False
+    return all([is_reason(paper, thing, pair, conditions, lesser)
+                for thing, (pair, conditions) in zip(things, fitting)])

@@ -1,0 +1,54 @@
+"""Rings of questions of marks."""
+
+from nevermet.errors import NoAnswer
+from nevermet.reach import explored
+from nevermet.verdicts import answer, settled
+
+
+def order_of(question):
+    """A flat list of strings that is ordered as a ground question is, however deep that is."""
+    signs = []
+    waiting = [question]
+    while waiting:
+        thing = waiting.pop()
+        if isinstance(thing, str):
+            signs.append(thing)
+        else:
+            signs.append(thing[0])
+            # An empty string ends the parts, so a term with fewer parts stands before one with more.
+            waiting.append("")
+            waiting.extend(thing[:0:-1])
+    return signs
+
+
+def first_order(ring):
+    """As `order_of`, for a tuple of questions that is compared with tuples of other questions."""
+    return order_of(ring[0])
+
+
+def led_to(leads, at):
+    """The dict of the questions to which a question leads, in one step or more."""
+    found = {}
+    waiting = list(leads[at])
+    while waiting:
+        one = waiting.pop()
+        if one not in found:
+            found[one] = True
+            waiting.extend(leads[one])
+    return found
+
+
+def rings(house, question):
+    """The ascending tuple of the classes of questions that lead to each other, each an ascending tuple."""
+    net = explored(house, question, None)
+    held, _ = settled(net)
+    if 0 not in held:
+        raise NoAnswer(question)
+    leads = {at: answer(net, held, at)[2] for at in held}
+    led = {at: led_to(leads, at) for at in [0, *led_to(leads, 0)]}
+    classes = []
+    for at in led:
+        ring = [other for other in led if other in led[at] and at in led[other]]
+        if ring and ring[0] == at:
+            classes.append(tuple(sorted([net.questions[other] for other in ring], key=order_of)))
+    return tuple(sorted(classes, key=first_order))
