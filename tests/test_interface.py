@@ -4,12 +4,20 @@ import importlib
 import inspect
 import unittest
 
+from helping import base, shop
+from nevermet.asking import ask
+from nevermet.evidence import evidence
 from nevermet.houses import House
 from nevermet.packages import Package
 from nevermet.parting import check_parted
+from nevermet.places import own_place
+from nevermet.refutation import refutation
 from nevermet.rules import Rule
+from nevermet.shut import is_shut
+from nevermet.tables import lasting_table, why_not
 from nevermet.term import Term
 from nevermet.unify import meet, unify
+from nevermet.words import wrong_forms, wrong_words
 
 FUNCTIONS = {
     "names": {"is_name": "(thing)", "is_word": "(thing)", "is_variable": "(thing)"},
@@ -27,6 +35,20 @@ FUNCTIONS = {
     "functions": {"Function": "(name, *variables, wants=(), body=())"},
     "texts": {"term_text": "(term)", "rule_text": "(rule)", "function_text": "(function)", "package_text": "(package)",
               "table": "(house)"},
+    "places": {"own_place": "(house, name, index)", "bare_places": "(rule)"},
+    "reach": {"reached": "(house, question)"},
+    "asking": {"holds": "(house, question, *, by=None)", "ask": "(house, question, *, by=None)"},
+    "evidence": {"evidence": "(house, question, *, by=None)", "round_of": "(house, question)"},
+    "evidencecheck": {"check_evidence": "(house, question, thing)"},
+    "refutation": {"refutation": "(house, question, *, by=None)"},
+    "refutationcheck": {"check_refutation": "(house, question, thing)"},
+    "rings": {"rings": "(house, question)"},
+    "chains": {"chain": "(house, question)", "hardened": "(house, question)"},
+    "shut": {"is_shut": "(house, name, question)"},
+    "tables": {"lasts": "(house, name, question)", "lasting_table": "(house, name, question)",
+               "why_not": "(house, name, question)"},
+    "tablecheck": {"check_table": "(house, name, question, thing)"},
+    "words": {"named": "(package)", "wrong_words": "(house, name)", "wrong_forms": "(house, name)"},
     "errors": {"NeverError": None, "InvalidTerm": "(thing)", "InvalidRule": "(reason)", "InvalidFunction": "(reason)",
                "InvalidPackage": "(field, index)", "NoHouse": "(reason, name)", "Refused": "(complaints)",
                "NotNext": "(field, index)", "Mismatch": "(name, other)", "BadPaper": "(index)", "InvalidText": "(line)",
@@ -86,9 +108,38 @@ class Examples(unittest.TestCase):
         shop = Package("shop", "base", sorts=[("item", 0)], rules=[Rule(("base.show", ("shop.item",)))])
         house = House(base, shop)
         self.assertEqual([house.sees("shop"), list(house.rules_for("base.show")),
-                          list(house.rules_for("base.show", by="base"))],
-                         [("base",), [("base", 0), ("base", 1), ("shop", 0)], [("base", 0), ("base", 1)]])
+                          list(house.rules_for("base.show", by="base")), own_place(house, "shop", 0),
+                          own_place(house, "base", 1)],
+                         [("base",), [("base", 0), ("base", 1), ("shop", 0)], [("base", 0), ("base", 1)], 0, -1])
         self.assertEqual(repr(house), "House(base 1, shop 1)")
+
+    def test_asking(self):
+        house, row = House(base(), shop()), ("base.list", ("shop.item",))
+        self.assertEqual([ask(house, ("base.show", row)), ask(house, ("base.show", row), by="shop"),
+                          evidence(house, ("base.show", row))],
+                         [("base", 1), ("base", 1), (
+                             (("base.show", ("base.list", ("shop.item",))), 2, ("base", 1), (1,)),
+                             (("base.show", ("shop.item",)), 1, ("shop", 0), ()))])
+
+    def test_noes(self):
+        far = House(base(), Package("far", "base", sorts=[("gem", 0)]))
+        gem = ("far.gem",)
+        self.assertEqual(refutation(far, ("base.show", ("base.list", gem))), (
+            (("base.show", ("base.list", ("far.gem",))), 0, (("base", 1, 0, 1),)), (("base.show", ("far.gem",)), 0, ())))
+        self.assertEqual([is_shut(far, "far", ("base.show", gem)), is_shut(far, "far", ("base.show", ("base.list", gem))),
+                          lasting_table(far, "far", ("base.show", gem)),
+                          why_not(far, "far", ("base.show", ("base.list", gem)))],
+                         [True, False, ((("base.show", ("far.gem",)), 0, ()),),
+                          ("exposed", ("base.show", ("base.list", ("far.gem",))))])
+
+    def test_looks(self):
+        """The complaint of the first example of the looks is one about forms; in the second one there is none."""
+        twice = Package("twice", "base", sorts=[("gem", 0)], rules=[Rule(("base.show", ("base.list", ("twice.gem",))))])
+        odd = Package("odd", "base", sorts=[("gem", 0)], traits=[("neat", 1, False, ())],
+                      rules=[Rule(("odd.neat", "T"), ("base.show", "T")), Rule(("odd.neat", ("odd.gem",)))])
+        self.assertEqual([wrong_words(House(base(), twice), "twice"), wrong_forms(House(base(), twice), "twice")],
+                         [(), (("place", 0),)])
+        self.assertEqual([wrong_words(House(base(), odd), "odd"), wrong_forms(House(base(), odd), "odd")], [(), ()])
 
     def test_terms(self):
         row, number = Term.read("base.list(T)"), Term.read("base.int")
