@@ -44,8 +44,8 @@ def is_round(thing, zero):
 
 
 def has_less(entry, count):
-    """Whether a mentioned entry, any value, has a round that is less."""
-    return isinstance(entry, tuple) and len(entry) > 1 and is_integer(entry[1]) and 0 <= entry[1] < count
+    """Whether a mentioned entry, a tuple, has a round that is less."""
+    return len(entry) > 1 and is_integer(entry[1]) and 0 <= entry[1] < count
 
 
 def is_mention(paper, number, question):

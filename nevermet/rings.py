@@ -2,23 +2,14 @@
 
 from nevermet.errors import NoAnswer
 from nevermet.reach import explored
+from nevermet.terms import walk
 from nevermet.verdicts import answer, settled
 
 
 def order_of(question):
-    """A flat list of strings that is ordered as a ground question is, however deep that is."""
-    signs = []
-    waiting = [question]
-    while waiting:
-        thing = waiting.pop()
-        if isinstance(thing, str):
-            signs.append(thing)
-        else:
-            signs.append(thing[0])
-            # An empty string ends the parts, so a term with fewer parts stands before one with more.
-            waiting.append("")
-            waiting.extend(thing[:0:-1])
-    return signs
+    """The flat list of the words of a ground question; such lists are ordered as the questions are, however deep."""
+    # A word has the same number of parts everywhere, so the first unlike words decide.
+    return [piece[0] for piece in walk((question,))]
 
 
 def first_order(ring):

@@ -282,8 +282,8 @@ def slow_exposed(house, name):
             return "exposed", question
         for other in house.view(name):
             for index, rule in enumerate(house[other].rules):
-                if rule.trait == question[0] and meet(rule.places, question[1:]) is not None:
-                    if rule.fills(question) is None:
+                if rule.trait == question[0] and len(rule.head) == len(question) and rule.fills(question) is None:
+                    if meet(rule.places, question[1:]) is not None:
                         return "meets", question, (other, index)
         return None
     return exposed

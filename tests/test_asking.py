@@ -108,6 +108,20 @@ class Reached(unittest.TestCase):
         self.assertEqual(reached(House(odd), ("low.m", A)), (
             ("low.m", A), ("low.p", A), ("no.where", A), ("low.q", ("no.sort",)), ("low.q", A)))
 
+    def test_other_numbers_of_places_and_parts(self):
+        """Rules whose heads name a word with another number of places or parts do not fit."""
+        odd = low(Rule(("low.p", "T", "U"), ("low.q", "T")), Rule(("low.p", ("low.f",)), ("low.q", A)),
+                  Rule(("low.p", ("low.f", "T", "U")), ("low.q", B)), Rule(("low.p", ("low.g", "T")), ("low.q", "T")),
+                  Rule(("low.r", "T"), ("low.q", "T")), Rule(("low.r", "T", "U", "V"), ("low.q", "T")))
+        for question in (("low.p", f(A)), ("low.p", g(A, B)), ("low.r", A, A)):
+            self.assertEqual(reached(House(odd), question), (question,))
+
+    def test_three_places(self):
+        more = [*LOW_TRAITS, ("w", 3, False, ()), ("x", 3, True, ())]
+        house = House(low(Rule(("low.w", "T", f("U"), "T"), ("low.x", "U", "T", A)), traits=more))
+        self.assertEqual(reached(house, ("low.w", B, f(A), B)), (("low.w", B, f(A), B), ("low.x", A, B, A)))
+        self.assertEqual(reached(house, ("low.w", B, f(A), A)), (("low.w", B, f(A), A),))
+
     def test_random_houses(self):
         source = random.Random(11)
         for _ in range(300):

@@ -232,6 +232,25 @@ class Check(unittest.TestCase):
             self.assertEqual(bad(GOOD, PAPER + ((thing, 0, ("low", 3), (2,)),)), 4)
             self.assertEqual(bad(GOOD, put(3, thing, 0, ("low", 3), (2,))), 1)
 
+    def test_variables(self):
+        """Also where the rule has no conditions."""
+        house = alone(Rule(p("T")), Rule(("low.r", "T", "U")))
+        for question, index in [(p("X"), 0), (p(f("X")), 0), (p(g(A, f("X"))), 0), (("low.r", A, "X"), 1),
+                                (("low.r", "X", A), 1), (("low.r", A, f("X")), 1), (("low.r", f("X"), A), 1)]:
+            self.assertEqual(bad(house, ((p(A), 1, ("low", 0), ()), (question, 1, ("low", index), ()))), 1)
+            self.assertEqual(bad(house, ((question, 1, ("low", index), ()),)), 0)
+
+    def test_three_places(self):
+        more = [*LOW_TRAITS, ("w", 3, False, ()), ("x", 3, True, ())]
+        rules = [Rule(("low.w", "T", f("U"), "T"), ("low.x", "U", "T", A)), Rule(("low.x", "T", "U", "V"))]
+        house = House(Package("low", sorts=LOW_SORTS, traits=more, rules=rules))
+        asked = ("low.w", B, f(A), B)
+        paper = ((asked, 1, ("low", 0), (1,)), (("low.x", A, B, A), 0, ("low", 1), ()))
+        self.assertEqual(evidence(house, asked), paper)
+        self.assertIsNone(bad(house, paper))
+        self.assertEqual(bad(house, paper[:1] + ((("low.x", A, B, B), 0, ("low", 1), ()),)), 0)
+        self.assertEqual(bad(house, paper + ((("low.x", A, A, "X"), 0, ("low", 1), ()),)), 2)
+
     def test_a_question_twice(self):
         self.assertEqual(bad(GOOD, PAPER + PAPER[3:]), 4)
         self.assertEqual(bad(GOOD, PAPER + ((n(A), 0, ("low", 5), ()),)), 4)

@@ -277,6 +277,17 @@ class Check(unittest.TestCase):
         self.assertEqual(bad(GOOD, put(3, n(f(A)), 1, (("low", 4, 0, 4),))), 3)
         self.assertEqual(bad(GOOD, put(3, n(f(A)), 1, None)), 3)
 
+    def test_three_places(self):
+        more = [*LOW_TRAITS, ("w", 3, False, ()), ("x", 3, True, ())]
+        house = House(Package("low", sorts=LOW_SORTS, traits=more,
+                              rules=[Rule(("low.w", "T", f("U"), "T"), ("low.x", "U", "T", A))]))
+        asked = ("low.w", B, f(A), B)
+        paper = ((asked, 0, (("low", 0, 0, 1),)), (("low.x", A, B, A), 1, ()))
+        self.assertEqual(refutation(house, asked), paper)
+        self.assertIsNone(bad(house, paper))
+        self.assertEqual(bad(house, paper + ((("low.x", A, A, "X"), 1, ()),)), 2)
+        self.assertEqual(bad(house, paper + ((("low.w", B, f(A), A), 0, ()), (("low.w", B, f(A), B, B), 0, ()))), 3)
+
     def test_a_rule_without_conditions_that_fits(self):
         house = alone(Rule(p("T")), Rule(p("T"), q("T")))
         self.assertEqual(bad(house, ((p(A), 0, (("low", 0, 0, 1), ("low", 1, 0, 1))), (q(A), 0, ()))), 0)

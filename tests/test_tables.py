@@ -301,6 +301,27 @@ class Tables(unittest.TestCase):
         self.assertEqual(table(house, p(B), "low"), ((p(B), 0, (("low", 1, 0, 1),)), (q(B), 0, ())))
         self.assertEqual(reason(house, p(A), "other"), ("exposed", p(A)))
 
+    def test_other_numbers_of_places_and_parts(self):
+        """Rules whose heads name a word with another number of places or parts neither fit nor meet a question."""
+        house = alone(Rule(p(("low.f",))), Rule(p(("low.f", "T", A))), Rule(("low.p", f("T"), A)), Rule(("low.r", f("T"))),
+                      Rule(("low.r", f("T"), "T", A)))
+        for question in (p(f("V0")), p(f(A)), r(f("V0"), f("V0"))):
+            self.assertEqual(table(house, question), ((question, 0, ()),))
+            self.assertIsNone(bad(house, ((question, 0, ()),)))
+
+    def test_three_places(self):
+        more = [*LOW_TRAITS, ("w", 3, False, ()), ("x", 3, True, ())]
+        house = House(Package("low", sorts=LOW_SORTS, traits=more,
+                              rules=[Rule(("low.w", f("T"), f("U"), f("T")), ("low.x", f("U"), f("T"), A)),
+                                     Rule(("low.x", "T", "T", A), ("low.x", "T", A, "T"))]))
+        self.assertEqual(reason(house, ("low.w", f("X"), f("Y"), f("X"))),
+                         ("meets", ("low.x", f("V0"), f("V1"), A), ("low", 1)))
+        self.assertEqual(reason(house, ("low.w", f("X"), f("Y"), f("Z"))),
+                         ("meets", ("low.w", f("V0"), f("V1"), f("V2")), ("low", 0)))
+        self.assertEqual(table(house, ("low.w", f("Y"), f(f("Y")), f("Y"))), (
+            (("low.w", f("V0"), f(f("V0")), f("V0")), 0, (("low", 0, 0, 1),)),
+            (("low.x", f(f("V0")), f("V0"), A), 1, ())))
+
     def test_a_lasting_no_is_a_no(self):
         source = random.Random(51)
         count = 0
