@@ -1,7 +1,6 @@
 """Questions that are reached, and the rules that fit them."""
 
 from nevermet.store import Store
-from nevermet.terms import renamed_question
 from nevermet.unify import have_meet
 
 
@@ -35,27 +34,28 @@ class Net:
         self._codes = []
         self._numbers = {}
 
-    def _numbered(self, code):
-        """The number of the question with a trait and with places that have numbers in the store."""
+    def _numbered(self, trait, numbers):
+        """The number of the renamed form of the question with this trait and with terms that have these numbers."""
+        code = (trait, *numbers)
         if code not in self._numbers:
-            self._numbers[code] = len(self._codes)
-            self._codes.append(code)
-            self.questions.append((code[0], *[self._store.term(number) for number in code[1:]]))
-            self.marks.append(self._house.sort_of(code[0]) == "mark")
-            self.exposed.append(None)
-            self.uses.append([])
+            form = (trait, *self._store.renamed(numbers))
+            if form not in self._numbers:
+                self._numbers[form] = len(self._codes)
+                self._codes.append(form)
+                self.questions.append((trait, *[self._store.term(number) for number in form[1:]]))
+                self.marks.append(self._house.sort_of(trait) == "mark")
+                self.exposed.append(None)
+                self.uses.append([])
+            self._numbers[code] = self._numbers[form]
         return self._numbers[code]
 
     def mention(self, question):
-        """The number of a question that is in its renamed form."""
-        return self._numbered((question[0], *[self._store.number_of(place) for place in question[1:]]))
+        """The number of the renamed form of a question."""
+        return self._numbered(question[0], [self._store.number_of(place) for place in question[1:]])
 
     def _asked(self, condition, fill):
         """The number of the renamed form of a condition, filled."""
-        numbers = [self._store.built(place, fill) for place in condition[1:]]
-        if self._store.are_ground(numbers):
-            return self._numbered((condition[0], *numbers))
-        return self.mention(renamed_question((condition[0], *[self._store.term(number) for number in numbers])))
+        return self._numbered(condition[0], [self._store.built(place, fill) for place in condition[1:]])
 
     def grow(self, at):
         """Find the uses of the rules that fit a question."""

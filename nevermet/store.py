@@ -40,6 +40,29 @@ class Store:
         """Whether the terms with these numbers contain no variable."""
         return all([self._ground[number] for number in numbers])
 
+    def _with_variables(self, numbers):
+        """The dict of the numbers of the pieces that contain variables, in the order of their first occurrence."""
+        found = {}
+        waiting = list(numbers[::-1])
+        while waiting:
+            number = waiting.pop()
+            if number not in found and not self._ground[number]:
+                found[number] = True
+                waiting.extend(self._parts[number][::-1])
+        return found
+
+    def renamed(self, numbers):
+        """The tuple of the numbers of the renamed form of the terms with these numbers."""
+        found = self._with_variables(numbers)
+        bare = [number for number in found if not self._parts[number]]
+        new = {number: self._number(f"V{at}", (), True) for at, number in enumerate(bare)}
+        # Parts have lesser numbers than what they are parts of.
+        for number in sorted(found):
+            if number not in new:
+                parts = tuple([new.get(part, part) for part in self._parts[number]])
+                new[number] = self._number(self._terms[number][0], parts, False)
+        return tuple([new.get(number, number) for number in numbers])
+
     def built(self, term, fill):
         """The number of a term of a rule, filled by a dict from its variables to numbers."""
         if isinstance(term, str):

@@ -3,7 +3,6 @@
 from nevermet.nets import Net
 from nevermet.noes import no_paper
 from nevermet.shut import is_shut
-from nevermet.terms import renamed_question
 from nevermet.verdicts import settled
 
 MOST_REACHED = 100
@@ -21,7 +20,7 @@ def exposure(house, name, net, at):
 def net_of(house, name, question):
     """The net of what is reached from a question, as far as it is not exposed; None if this is too much."""
     net = Net(house, house.view(name))
-    net.mention(renamed_question(question))
+    net.mention(question)
     at = 0
     while at < len(net.questions):
         net.exposed[at] = exposure(house, name, net, at)
