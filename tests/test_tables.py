@@ -204,6 +204,18 @@ class Tables(unittest.TestCase):
         house = alone(Rule(p(g("T", "U")), q("U"), q("T")), Rule(q(f("T")), m("T")), Rule(m("T")))
         self.assertEqual(reason(house, p(g(f(f("X")), f(f("Y"))))), ("holds", p(g(f(f("V0")), f(f("V1"))))))
 
+    def test_conditions_with_one_renamed_form_are_one_question(self):
+        house = alone(Rule(p(g("T", "U")), q("T")), SoftRule(p(g("T", "U")), q("U")), Rule(q(f("T")), r(f("T"), f("T"))))
+        self.assertEqual(table(house, p(g(f("X1"), f("X2")))), (
+            (p(g(f("V0"), f("V1"))), 0, (("low", 0, 0, 1), ("low", 1, 0, 1))), (q(f("V0")), 0, (("low", 2, 0, 2),)),
+            (r(f("V0"), f("V0")), 0, ())))
+        self.assertEqual(table(alone(), r(f("X1"), f("X2"))), ((r(f("V0"), f("V1")), 0, ()),))
+        self.assertEqual(table(alone(), r(f("X1"), f("X1"))), ((r(f("V0"), f("V0")), 0, ()),))
+        # The first one; then p of 49 to 0 signs f, and q of 49 to 1: together 100.
+        house = alone(Rule(p(g("T", "U")), p("T"), p("U")), Rule(p(f("T")), p("T")), Rule(p(f("T")), q(f("T"))))
+        self.assertEqual(reason(house, p(g(nested(49, "X1"), nested(49, "X2")))), ("exposed", p("V0")))
+        self.assertEqual(reason(house, p(g(nested(50, "X1"), nested(50, "X2")))), ("many",))
+
     def test_a_bare_condition_is_exposed(self):
         house = alone(Rule(p(f("T")), q("T")))
         self.assertEqual(reason(house, p(f("X"))), ("exposed", q("V0")))
