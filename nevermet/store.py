@@ -14,13 +14,13 @@ class Store:
 
     def _number(self, sign, parts, bare):
         """The number of the term with this variable or word, and with the parts that have these numbers."""
-        mark = (sign, parts)
-        if mark not in self._numbers:
-            self._numbers[mark] = len(self._terms)
+        key = (sign, parts)
+        if key not in self._numbers:
+            self._numbers[key] = len(self._terms)
             self._terms.append(sign if bare else (sign, *[self._terms[part] for part in parts]))
             self._parts.append(parts)
             self._ground.append(not bare and all([self._ground[part] for part in parts]))
-        return self._numbers[mark]
+        return self._numbers[key]
 
     def number_of(self, term):
         """The number of a term of any size."""
