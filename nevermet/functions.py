@@ -72,7 +72,8 @@ class Function:
 
     def __init__(self, name, *variables, wants=(), body=()):
         need_right(name, variables, wants, body)
-        self._name = name
+        # A plain attribute, since errors keep attributes of this name, too.
+        self.name = name
         self._variables = tuple(variables)
         self._wants = tuple(wants)
         self._body = tuple(body)
@@ -82,16 +83,6 @@ class Function:
         """The function with the variables of a list or tuple."""
         need_right(name, variables, wants, body)
         return cls(name, *variables, wants=wants, body=body)
-
-    @property
-    def name(self):
-        """The name."""
-        return self._name
-
-    @name.setter
-    def name(self, value):
-        # Errors keep attributes of this name, so there must be a setter; a function never changes.
-        raise AttributeError("a function keeps its name")
 
     @property
     def variables(self):
@@ -109,7 +100,7 @@ class Function:
         return self._body
 
     def __eq__(self, other):
-        return (isinstance(other, Function) and self._name == other.name and self._variables == other.variables
+        return (isinstance(other, Function) and self.name == other.name and self._variables == other.variables
                 and self._wants == other.wants and self._body == other.body)
 
     def __str__(self):

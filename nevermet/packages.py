@@ -109,9 +109,10 @@ class Package:
 
     def __init__(self, name, *needs, edition=1, sorts=(), traits=(), rules=(), functions=()):
         need_right(name, needs, edition, {"sorts": sorts, "traits": traits, "rules": rules, "functions": functions})
-        self._name = name
+        # Plain attributes, since errors keep attributes of these names, too.
+        self.name = name
+        self.edition = edition
         self._needs = tuple(sorted(set(needs)))
-        self._edition = edition
         self._sorts = tuple(sorts)
         self._traits = tuple(traits)
         self._rules = tuple(rules)
@@ -151,37 +152,17 @@ class Package:
 
     def later(self, *needs, sorts=(), traits=(), rules=(), functions=()):
         """The package with the next edition, more needs, and more items behind its own."""
-        wrong = wrong_needs(self._name, needs, self._needs)
+        wrong = wrong_needs(self.name, needs, self._needs)
         if wrong is not None:
             raise InvalidPackage(wrong[0], wrong[1])
-        return Package.of(self._name, (*self._needs, *needs), edition=self._edition + 1,
+        return Package.of(self.name, (*self._needs, *needs), edition=self.edition + 1,
                           sorts=behind(self._sorts, sorts), traits=behind(self._traits, traits),
                           rules=behind(self._rules, rules), functions=behind(self._functions, functions))
-
-    @property
-    def name(self):
-        """The name."""
-        return self._name
-
-    @name.setter
-    def name(self, value):
-        # Errors keep attributes of this name, so there must be a setter; a package never changes.
-        raise AttributeError("a package keeps its name")
 
     @property
     def needs(self):
         """The ascending tuple of the names of the needed packages."""
         return self._needs
-
-    @property
-    def edition(self):
-        """The number of the edition."""
-        return self._edition
-
-    @edition.setter
-    def edition(self, value):
-        # As for the name.
-        raise AttributeError("a package keeps its edition")
 
     @property
     def sorts(self):
@@ -207,10 +188,10 @@ class Package:
     def words(self):
         """The ascending tuple of the words that the package owns."""
         names = names_of(self._sorts, self._traits, self._functions)
-        return tuple(sorted([f"{self._name}.{name}" for name in names]))
+        return tuple(sorted([f"{self.name}.{name}" for name in names]))
 
     def __eq__(self, other):
-        return (isinstance(other, Package) and self._name == other.name and self._edition == other.edition
+        return (isinstance(other, Package) and self.name == other.name and self.edition == other.edition
                 and self._needs == other.needs and self._sorts == other.sorts and self._traits == other.traits
                 and self._rules == other.rules and self._functions == other.functions)
 

@@ -33,7 +33,7 @@ class Made(unittest.TestCase):
             self.assertIsInstance(value, tuple)
         self.assertEqual(Function(name="f", body=(ASK,)[:0]).name, "f")
         with self.assertRaises(AttributeError):
-            one.name = "other"
+            one.wants = ()
 
     def test_of(self):
         expected = Function("f", "T", "U", wants=(WANT,), body=(ASK,))

@@ -7,6 +7,7 @@ import unittest
 from helping import base, shop
 from nevermet.asking import ask
 from nevermet.evidence import evidence
+from nevermet.functions import Function
 from nevermet.houses import House
 from nevermet.packages import Package
 from nevermet.parting import check_parted
@@ -68,14 +69,14 @@ METHODS = {
     ("packages", "Package"): {
         "later": "(self, *needs, sorts=(), traits=(), rules=(), functions=())",
         "of": "(name, needs, *, edition=1, sorts=(), traits=(), rules=(), functions=())", "read": "(text)",
-        "__eq__": None, "__str__": None, "words": None, "name": None, "needs": None, "edition": None, "sorts": None,
-        "traits": None, "rules": None, "functions": None},
+        "__eq__": None, "__str__": None, "words": None, "needs": None, "sorts": None, "traits": None, "rules": None,
+        "functions": None},
     ("houses", "House"): {
         "names": None, "__getitem__": None, "__contains__": None, "of": "(packages)", "__len__": None, "__eq__": None,
         "__repr__": None, "sees": "(self, name)", "view": "(self, name)", "owner_of": "(self, word)",
         "sort_of": "(self, word)", "places_of": "(self, word)", "rules_for": "(self, trait, *, by=None)",
         "rule": "(self, name, index)", "with_package": "(self, package)"},
-    ("functions", "Function"): {"of": "(name, variables, wants, body)", "__eq__": None, "__str__": None, "name": None,
+    ("functions", "Function"): {"of": "(name, variables, wants, body)", "__eq__": None, "__str__": None,
                                 "variables": None, "wants": None, "body": None},
 }
 
@@ -97,6 +98,12 @@ class Interface(unittest.TestCase):
                 self.assertIn(method, vars(kind), name)
                 if signature is not None:
                     self.assertEqual(str(inspect.signature(getattr(kind, method))), signature, (name, method))
+
+
+    def test_attributes_are_set_when_the_object_is_made(self):
+        """Errors keep attributes called name and edition, so these two are no properties."""
+        self.assertEqual((Package("one").name, Package("one").edition, Function("f").name), ("one", 1, "f"))
+        self.assertEqual((shop().later().name, shop().later().edition), ("shop", 2))
 
 
 class Examples(unittest.TestCase):

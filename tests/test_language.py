@@ -175,8 +175,7 @@ class Statements(unittest.TestCase):
             for node in ast.walk(tree):
                 if isinstance(node, (ast.FunctionDef, ast.ClassDef)):
                     for one in node.decorator_list:
-                        self.assertIn(ast.unparse(one), ("property", "classmethod", "staticmethod",
-                                                         f"{node.name}.setter"), name)
+                        self.assertIn(ast.unparse(one), ("property", "classmethod", "staticmethod"), name)
                     if node.name.startswith("__"):
                         self.assertIn(node.name, SPECIAL, name)
 
@@ -208,9 +207,6 @@ class Statements(unittest.TestCase):
                 own = set()
                 for node in [node for node in kind.body if isinstance(node, ast.FunctionDef)]:
                     shown = [ast.unparse(one) for one in node.decorator_list]
-                    if shown == [f"{node.name}.setter"]:
-                        self.assertIn(node.name, own, kind.name)
-                        continue
                     self.assertNotIn(node.name, own, kind.name)
                     own.add(node.name)
                     (properties if "property" in shown else methods).add(node.name)
@@ -221,19 +217,16 @@ class Statements(unittest.TestCase):
         self.assertEqual(sorted(properties & (methods | BUILTIN_METHODS)), [])
         self.assertEqual(sorted(attributes & methods), [])
 
-    def test_properties_that_are_assigned_have_setters(self):
-        """The rule goes by the name of the attribute, whatever the class of the object that is assigned to."""
-        lacking, stored = set(), set()
+    def test_no_attribute_that_is_assigned_has_the_name_of_a_property(self):
+        """An operator may make any object, an error too, whatever the class that has the property."""
+        properties, stored = set(), set()
         for _, tree in trees():
             for node in ast.walk(tree):
                 if isinstance(node, ast.Attribute) and isinstance(node.ctx, (ast.Store, ast.Del)):
                     stored.add(node.attr)
-                if isinstance(node, ast.ClassDef):
-                    shown = {(one.name, ast.unparse(mark)) for one in node.body if isinstance(one, ast.FunctionDef)
-                             for mark in one.decorator_list}
-                    lacking |= {name for name, mark in shown if mark == "property"} - {
-                        name for name, mark in shown if mark == f"{name}.setter"}
-        self.assertEqual(sorted(stored & lacking), [])
+                if isinstance(node, ast.FunctionDef) and [ast.unparse(one) for one in node.decorator_list] == ["property"]:
+                    properties.add(node.name)
+        self.assertEqual(sorted(stored & properties), [])
 
     def test_stars_in_calls(self):
         """Behind a star in a call stands a name, an attribute off a name, or a literal."""

@@ -52,7 +52,7 @@ class Made(unittest.TestCase):
         for value in (one.needs, one.sorts, one.traits, one.rules, one.functions, one.words):
             self.assertIsInstance(value, tuple)
         with self.assertRaises(AttributeError):
-            one.edition = 6
+            one.needs = ()
 
     def test_of(self):
         one = Package("one", "two", "six", edition=5, sorts=sorts(2), traits=traits(1, 4), rules=[RULE],
