@@ -3,7 +3,7 @@
 from nevermet.errors import NoAnswer
 from nevermet.papers import by_mention
 from nevermet.reach import explored
-from nevermet.verdicts import answer, held_rounds, settled
+from nevermet.verdicts import answers_of, held_rounds, settled
 
 
 def evidence(house, question, *, by=None):
@@ -12,10 +12,10 @@ def evidence(house, question, *, by=None):
     held, _ = settled(net)
     if 0 not in held:
         raise NoAnswer(question)
-    rounds = held_rounds(net, held)
-    answers = {at: answer(net, held, at) for at in held}
+    answers = answers_of(net, held)
+    rounds = held_rounds(net, answers)
     indexes = by_mention({at: answers[at][2] for at in held})
-    return tuple([(net.questions[at], rounds[at], answers[at][0], tuple([indexes[one] for one in answers[at][2]]))
+    return tuple([(net.question_at(at), rounds[at], answers[at][0], tuple([indexes[one] for one in answers[at][2]]))
                   for at in indexes])
 
 
@@ -23,4 +23,4 @@ def round_of(house, question):
     """The round of a ground question that holds, or of one that is refuted."""
     net = explored(house, question, None)
     held, rounds = settled(net)
-    return held_rounds(net, held)[0] if 0 in held else rounds[0]
+    return held_rounds(net, answers_of(net, held))[0] if 0 in held else rounds[0]

@@ -1,44 +1,29 @@
 """The check of evidence that anybody wrote."""
 
-from nevermet.errors import BadPaper
-from nevermet.kinds import is_index
-from nevermet.papers import has_less, is_asked, is_mention, is_round, need_paper
-from nevermet.terms import variables_in
+from nevermet.codes import Codes
+from nevermet.papers import Paper, are_mentions, is_round
 
 
-def rule_named(house, thing):
-    """The rule that any value names as a pair, or None."""
-    if not isinstance(thing, tuple) or len(thing) != 2 or thing[0] not in house:
-        return None
-    name, index = thing
-    return house.rule(name, index) if is_index(index, len(house[name].rules)) else None
-
-
-def is_right(house, paper, entry):
-    """Whether any value is a right entry of evidence."""
-    if not isinstance(entry, tuple) or len(entry) != 4:
+def is_right(paper, at):
+    """Whether an entry of any value is a right entry of evidence."""
+    entry = paper.entries[at]
+    code = paper.code(at)
+    if code is None or len(entry) != 4 or not paper.codes.is_ground(code):
         return False
-    question, count, pair, numbers = entry
-    if not is_asked(question) or variables_in(question[1:]):
-        return False
-    mark = house.sort_of(question[0]) == "mark"
-    rule = rule_named(house, pair)
+    _, count, pair, numbers = entry
+    mark = paper.codes.is_mark(code)
+    rule = paper.codes.named_rule(pair, code)
     if rule is None or not is_round(count, mark):
         return False
-    conditions = rule.conditions_for(question)
-    if conditions is None or not isinstance(numbers, tuple) or len(numbers) != len(conditions):
-        return False
-    for number, condition in zip(numbers, conditions):
-        if not is_mention(paper, number, condition):
-            return False
-        if not mark and house.sort_of(condition[0]) != "mark" and not has_less(paper[number], count):
-            return False
-    return True
+    needed = paper.codes.needed(rule, code)
+    return needed is not None and are_mentions(paper, numbers, needed, None if mark else count)
 
 
 def check_evidence(house, question, thing):
     """Return True if any value is sound evidence for a ground question; otherwise raise BadPaper."""
-    if not isinstance(thing, tuple) or not thing:
-        raise BadPaper(0)
-    need_paper(thing, question, [is_right(house, thing, entry) for entry in thing])
+    codes = Codes(house, house.names, False)
+    paper = Paper(codes, thing)
+    asked = codes.code_of(question)
+    for at in range(len(thing)):
+        paper.need(at, is_right(paper, at), asked)
     return True

@@ -65,14 +65,12 @@ def all_declared(packages):
     return found
 
 
-def rules_by_trait(packages):
-    """The dict from the words of heads to the lists of the pairs of the rules, in order."""
+def rules_by_head(packages):
+    """The dict from the words of heads to the lists of ((package, index), rule), in order."""
     found = {}
     for name in packages:
         for index, rule in enumerate(packages[name].rules):
-            if rule.trait not in found:
-                found[rule.trait] = []
-            found[rule.trait].append((name, index))
+            found.setdefault(rule.trait, []).append(((name, index), rule))
     return found
 
 
@@ -86,7 +84,7 @@ class House:
         need_all(self._packages)
         self._seen = all_seen(self._packages)
         self._declared = all_declared(self._packages)
-        self._ruled = rules_by_trait(self._packages)
+        self._headed = rules_by_head(self._packages)
 
     @classmethod
     def of(cls, packages):
@@ -148,10 +146,14 @@ class House:
     def rules_for(self, trait, *, by=None):
         """Yield the pairs (package, index) of the rules for a trait, in order."""
         names = self.names if by is None else self.view(by)
-        pairs = self._ruled.get(trait, ()) if self.sort_of(trait) in ("trait", "mark") else ()
-        for name, index in list(pairs):
+        rows = self.headed(trait) if self.sort_of(trait) in ("trait", "mark") else ()
+        for (name, index), _ in rows:
             if name in names:
                 yield (name, index)
+
+    def headed(self, word):
+        """The tuple of ((package, index), rule) for the rules with this word as that of their heads, in order."""
+        return tuple(self._headed.get(word, ()))
 
     def rule(self, name, index):
         """The rule with an index of a package."""

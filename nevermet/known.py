@@ -37,3 +37,13 @@ def knows_question(house, names, question, kinds):
     if not is_declared(house, names, question[0], kinds, len(question) - 1):
         return False
     return knows_terms(house, names, question[1:])
+
+
+def function_named(house, word):
+    """The function with a word, or None."""
+    owner = house.owner_of(word)
+    if owner is not None:
+        for function in house[owner].functions:
+            if f"{owner}.{function.name}" == word:
+                return function
+    return None

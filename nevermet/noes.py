@@ -1,8 +1,7 @@
 """The papers of noes, which are refutations and lasting tables, and what their checks look at."""
 
 from nevermet.kinds import is_index, is_integer
-from nevermet.papers import by_mention, has_less, is_mention
-from nevermet.terms import renamed_question
+from nevermet.papers import by_mention
 
 
 def reason_of(net, rounds, at, use):
@@ -19,29 +18,28 @@ def no_paper(net, rounds):
     refuted = [at for at, count in enumerate(rounds) if count is not None]
     reasons = {at: [reason_of(net, rounds, at, use) for use in net.uses[at]] for at in refuted}
     indexes = by_mention({at: [reason[3] for reason in reasons[at]] for at in refuted})
-    return tuple([(net.questions[at], rounds[at], tuple([(*reason[:3], indexes[reason[3]]) for reason in reasons[at]]))
-                  for at in indexes])
+    return tuple([(net.question_at(at), rounds[at],
+                   tuple([(*reason[:3], indexes[reason[3]]) for reason in reasons[at]])) for at in indexes])
 
 
-def is_reason(paper, thing, pair, conditions, lesser):
-    """Whether any value is a right reason against the rule with this pair, with these conditions, filled.
+def is_reason(paper, thing, pair, asked, lesser):
+    """Whether any value is a right reason against the rule with this pair, whose filled conditions have these codes.
 
     Lesser is the round below which the mentioned entry must be, or None.
     """
     if not isinstance(thing, tuple) or len(thing) != 4:
         return False
     name, index, condition, number = thing
-    if not is_integer(index) or (name, index) != pair or not is_index(condition, len(conditions)):
+    if not is_integer(index) or (name, index) != pair or not is_index(condition, len(asked)):
         return False
-    if not is_mention(paper, number, renamed_question(conditions[condition])):
+    if not paper.mentions(number, asked[condition]):
         return False
-    return lesser is None or has_less(paper[number], lesser)
+    return lesser is None or paper.has_less(number, lesser)
 
 
-def are_reasons(paper, things, question, rules, lesser):
-    """Whether any value has a right reason against each of these rules that fits a question, in order."""
-    fitting = [(pair, rule.conditions_for(question)) for pair, rule in rules if rule.fills(question) is not None]
+def are_reasons(paper, things, code, lesser):
+    """Whether any value has a right reason against each rule that fits the question with this code, in order."""
+    fitting = paper.codes.fitting(code)
     if not isinstance(things, tuple) or len(things) != len(fitting):
         return False
-    return all([is_reason(paper, thing, pair, conditions, lesser)
-                for thing, (pair, conditions) in zip(things, fitting)])
+    return all([is_reason(paper, thing, pair, asked, lesser) for thing, (pair, _, asked) in zip(things, fitting)])

@@ -2,9 +2,6 @@
 
 from nevermet.errors import BadPaper
 from nevermet.kinds import is_index, is_integer
-from nevermet.names import is_word
-from nevermet.terms import MOST_PLACES, is_piece, same
-from nevermet.texts import term_text
 
 
 def by_mention(mentions):
@@ -24,44 +21,67 @@ def by_mention(mentions):
     return indexes
 
 
-def is_asked(thing):
-    """Whether any value is a question, its terms of any size."""
-    if not isinstance(thing, tuple) or not 2 <= len(thing) <= 1 + MOST_PLACES or not is_word(thing[0]):
-        return False
-    waiting = list(thing[1:])
-    while waiting:
-        one = waiting.pop()
-        if not is_piece(one, False):
-            return False
-        if isinstance(one, tuple):
-            waiting.extend(one[1:])
-    return True
-
-
 def is_round(thing, zero):
     """Whether any value is a round that is 0 exactly if this is wanted."""
     return is_integer(thing) and thing >= 0 and (thing == 0) == zero
 
 
-def has_less(entry, count):
-    """Whether a mentioned entry, a tuple, has a round that is less."""
-    return len(entry) > 1 and is_integer(entry[1]) and 0 <= entry[1] < count
+class Paper:
+    """Any value that may be a paper, and the codes of the questions of its entries."""
+
+    def __init__(self, codes, thing):
+        if not isinstance(thing, tuple) or not thing:
+            raise BadPaper(0)
+        self.codes = codes
+        self.entries = thing
+        self._found = {}
+        self._earlier = {}
+
+    def code(self, at):
+        """The code of the question of an entry; None if it has none."""
+        if at not in self._found:
+            entry = self.entries[at]
+            self._found[at] = self.codes.code_in(entry[0]) if isinstance(entry, tuple) and entry else None
+        return self._found[at]
+
+    def mentions(self, number, code):
+        """Whether any value is the index of the entry whose question has this code."""
+        if not is_index(number, len(self.entries)):
+            return False
+        if number not in self._found and self.codes.is_shallow(code):
+            entry = self.entries[number]
+            # An entry that is compared so is not walked through again.
+            if not isinstance(entry, tuple) or not entry or entry[0] != self.codes.question_of(code):
+                return False
+            self._found[number] = code
+        return self.code(number) == code
+
+    def has_less(self, number, count):
+        """Whether the entry with an index, which is mentioned, has a round that is less."""
+        entry = self.entries[number]
+        return len(entry) > 1 and is_integer(entry[1]) and 0 <= entry[1] < count
+
+    def need(self, at, right, asked):
+        """Raise BadPaper unless an entry is right, repeats no question, and has the asked one if it is the first.
+
+        The entries are looked at one after the other.
+        """
+        code = self.code(at)
+        if not right or code in self._earlier or (at == 0 and code != asked):
+            raise BadPaper(at)
+        self._earlier[code] = True
 
 
-def is_mention(paper, number, question):
-    """Whether any value is the index of the entry with a question."""
-    if not is_index(number, len(paper)) or not isinstance(paper[number], tuple) or not paper[number]:
+def are_mentions(paper, things, needed, count):
+    """Whether any value has for each needed question, in order, the index of its entry.
+
+    With a count, the round of the entry that mentions them, plain ones must have a lesser round.
+    """
+    if not isinstance(things, tuple) or len(things) != len(needed):
         return False
-    return same(paper[number][0], question)
-
-
-def need_paper(paper, question, rights):
-    """Raise BadPaper unless all entries of a paper are right, have different questions and begin with this one."""
-    earlier = {}
-    for at, right in enumerate(rights):
-        if not right or (at == 0 and not same(paper[0][0], question)):
-            raise BadPaper(at)
-        text = term_text(paper[at][0])
-        if text in earlier:
-            raise BadPaper(at)
-        earlier[text] = True
+    for thing, code in zip(things, needed):
+        if not paper.mentions(thing, code):
+            return False
+        if count is not None and not paper.codes.is_mark(code) and not paper.has_less(thing, count):
+            return False
+    return True

@@ -1,29 +1,26 @@
 """The check of refutations that anybody wrote."""
 
-from nevermet.errors import BadPaper
-from nevermet.nets import rules_by_word
+from nevermet.codes import Codes
 from nevermet.noes import are_reasons
-from nevermet.papers import is_asked, is_round, need_paper
-from nevermet.terms import variables_in
+from nevermet.papers import Paper, is_round
 
 
-def is_right(house, ruled, paper, entry):
-    """Whether any value is a right entry of a refutation."""
-    if not isinstance(entry, tuple) or len(entry) != 3:
+def is_right(paper, at):
+    """Whether an entry of any value is a right entry of a refutation."""
+    entry = paper.entries[at]
+    code = paper.code(at)
+    if code is None or len(entry) != 3 or not paper.codes.is_ground(code):
         return False
-    question, count, reasons = entry
-    if not is_asked(question) or variables_in(question[1:]):
-        return False
-    mark = house.sort_of(question[0]) == "mark"
-    if not is_round(count, not mark):
-        return False
-    return are_reasons(paper, reasons, question, ruled.get(question[0], ()), count if mark else None)
+    _, count, reasons = entry
+    mark = paper.codes.is_mark(code)
+    return is_round(count, not mark) and are_reasons(paper, reasons, code, count if mark else None)
 
 
 def check_refutation(house, question, thing):
     """Return True if any value is a sound refutation of a ground question; otherwise raise BadPaper."""
-    if not isinstance(thing, tuple) or not thing:
-        raise BadPaper(0)
-    ruled = rules_by_word(house, house.names)
-    need_paper(thing, question, [is_right(house, ruled, thing, entry) for entry in thing])
+    codes = Codes(house, house.names, False)
+    paper = Paper(codes, thing)
+    asked = codes.code_of(question)
+    for at in range(len(thing)):
+        paper.need(at, is_right(paper, at), asked)
     return True

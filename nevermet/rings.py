@@ -3,7 +3,7 @@
 from nevermet.errors import NoAnswer
 from nevermet.reach import explored
 from nevermet.terms import walk
-from nevermet.verdicts import answer, settled
+from nevermet.verdicts import answers_of, settled
 
 
 def order_of(question):
@@ -35,11 +35,12 @@ def rings(house, question):
     held, _ = settled(net)
     if 0 not in held:
         raise NoAnswer(question)
-    leads = {at: answer(net, held, at)[2] for at in held}
+    answers = answers_of(net, held)
+    leads = {at: answers[at][2] for at in held}
     led = {at: led_to(leads, at) for at in [0, *led_to(leads, 0)]}
     classes = []
     for at in led:
         ring = [other for other in led if other in led[at] and at in led[other]]
         if ring and ring[0] == at:
-            classes.append(tuple(sorted([net.questions[other] for other in ring], key=order_of)))
+            classes.append(tuple(sorted([net.question_at(other) for other in ring], key=order_of)))
     return tuple(sorted(classes, key=first_order))

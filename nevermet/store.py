@@ -1,6 +1,10 @@
 """Terms of any size under numbers."""
 
-from nevermet.terms import coded
+from nevermet.names import is_variable
+from nevermet.terms import is_piece, walk
+
+# Terms that are not deeper than this may be compared as they are, since Python's calls can be that deep.
+MOST_SHALLOW = 200
 
 
 class Store:
@@ -8,37 +12,85 @@ class Store:
 
     def __init__(self):
         self._terms = []
+        self._signs = []
         self._parts = []
         self._ground = []
+        self._depths = []
         self._numbers = {}
+        self._right = {}
 
-    def _number(self, sign, parts, bare):
-        """The number of the term with this variable or word, and with the parts that have these numbers."""
-        key = (sign, parts)
-        if key not in self._numbers:
-            self._numbers[key] = len(self._terms)
-            self._terms.append(sign if bare else (sign, *[self._terms[part] for part in parts]))
-            self._parts.append(parts)
-            self._ground.append(not bare and all([self._ground[part] for part in parts]))
-        return self._numbers[key]
+    def _added(self, sign, parts, term):
+        """The number of a term that has none yet, with its variable or word and the numbers of its parts."""
+        bare = isinstance(term, str)
+        self._numbers[(sign, parts)] = len(self._terms)
+        self._terms.append(term)
+        self._signs.append(sign)
+        self._parts.append(parts)
+        self._ground.append(not bare and all([self._ground[part] for part in parts]))
+        if bare and not is_variable(sign):
+            # Such as V1000 in a renamed form: no paper may contain it, so it is never compared as it is.
+            self._depths.append(MOST_SHALLOW + 1)
+        else:
+            self._depths.append(1 + max([self._depths[part] for part in parts], default=0))
+        return len(self._terms) - 1
+
+    def _number(self, word, parts):
+        """The number of the term with this word, and with parts that have these numbers."""
+        number = self._numbers.get((word, parts))
+        if number is None:
+            number = self._added(word, parts, (word, *[self._terms[part] for part in parts]))
+        return number
 
     def number_of(self, term):
         """The number of a term of any size."""
-        nodes, roots = coded((term,))
-        numbers = []
-        for piece, parts in nodes:
-            bare = isinstance(piece, str)
-            held = tuple([numbers[part] for part in parts])
-            numbers.append(self._number(piece if bare else piece[0], held, bare))
-        return numbers[roots[0]]
+        held = []
+        for piece in walk((term,))[::-1]:
+            sign, parts = piece, ()
+            if isinstance(piece, tuple):
+                sign = piece[0]
+                many = len(piece) - 1
+                if many:
+                    parts = tuple(held[:-many - 1:-1])
+                    del held[-many:]
+            number = self._numbers.get((sign, parts))
+            held.append(self._added(sign, parts, piece) if number is None else number)
+        return held[0]
+
+    def _is_right_piece(self, thing):
+        """Whether any value can stand in a term, whatever its parts are."""
+        if isinstance(thing, tuple) and 1 <= len(thing) <= 4 and isinstance(thing[0], str):
+            sign = thing[0]
+            if sign not in self._right:
+                self._right[sign] = is_piece((sign,), False)
+            return self._right[sign]
+        return is_variable(thing)
+
+    def number_in(self, thing):
+        """The number of any value that is a term of any size; None for any other value."""
+        waiting = [thing]
+        while waiting:
+            one = waiting.pop()
+            if not self._is_right_piece(one):
+                return None
+            if isinstance(one, tuple):
+                waiting.extend(one[1:])
+        return self.number_of(thing)
 
     def term(self, number):
         """The term with a number."""
         return self._terms[number]
 
+    def sign(self, number):
+        """The variable or the word of the term with a number."""
+        return self._signs[number]
+
     def are_ground(self, numbers):
         """Whether the terms with these numbers contain no variable."""
         return all([self._ground[number] for number in numbers])
+
+    def are_shallow(self, numbers):
+        """Whether the terms with these numbers may be compared as they are."""
+        return all([self._depths[number] <= MOST_SHALLOW for number in numbers])
 
     def _with_variables(self, numbers):
         """The dict of the numbers of the pieces that contain variables, in the order of their first occurrence."""
@@ -54,20 +106,22 @@ class Store:
     def renamed(self, numbers):
         """The tuple of the numbers of the renamed form of the terms with these numbers."""
         found = self._with_variables(numbers)
-        bare = [number for number in found if not self._parts[number]]
-        new = {number: self._number(f"V{at}", (), True) for at, number in enumerate(bare)}
+        new = {}
+        for number in found:
+            if not self._parts[number]:
+                new[number] = self.number_of(f"V{len(new)}")
         # Parts have lesser numbers than what they are parts of.
         for number in sorted(found):
             if number not in new:
                 parts = tuple([new.get(part, part) for part in self._parts[number]])
-                new[number] = self._number(self._terms[number][0], parts, False)
+                new[number] = self._number(self._signs[number], parts)
         return tuple([new.get(number, number) for number in numbers])
 
     def built(self, term, fill):
         """The number of a term of a rule, filled by a dict from its variables to numbers."""
         if isinstance(term, str):
             return fill[term]
-        return self._number(term[0], tuple([self.built(part, fill) for part in term[1:]]), False)
+        return self._number(term[0], tuple([self.built(part, fill) for part in term[1:]]))
 
     def fill_for(self, ones, numbers):
         """The dict from variables to numbers that makes some terms those with the given numbers, or None."""
@@ -77,14 +131,11 @@ class Store:
         waiting = list(zip(ones, numbers))
         while waiting:
             one, number = waiting.pop()
-            term = self._terms[number]
             if isinstance(one, str):
-                if one not in fill:
-                    fill[one] = number
-                elif fill[one] != number:
+                if fill.setdefault(one, number) != number:
                     return None
-            elif isinstance(term, str) or one[0] != term[0] or len(one) != len(term):
+            elif one[0] != self._signs[number] or len(one) != 1 + len(self._parts[number]):
                 return None
-            else:
+            elif len(one) > 1:
                 waiting.extend(list(zip(one[1:], self._parts[number])))
         return fill

@@ -1,5 +1,6 @@
 """Questions that last as a no, and their tables."""
 
+from nevermet.codes import Codes
 from nevermet.nets import Net
 from nevermet.noes import no_paper
 from nevermet.shut import is_shut
@@ -8,28 +9,56 @@ from nevermet.verdicts import settled
 MOST_REACHED = 100
 
 
-def exposure(house, name, net, at):
-    """The reason why a question of a net is exposed, or None."""
-    question = net.questions[at]
-    if not is_shut(house, name, question):
-        return ("exposed", question)
-    pair = net.met_only(at)
-    return None if pair is None else ("meets", question, pair)
+class Lasting:
+    """The questions that last as a no for a package, each one found out once."""
 
+    def __init__(self, house, name):
+        self._house = house
+        self._name = name
+        self._codes = Codes(house, house.view(name), True)
+        self._found = {}
 
-def net_of(house, name, question):
-    """The net of what is reached from a question, as far as it is not exposed; None if this is too much."""
-    net = Net(house, house.view(name))
-    net.mention(question)
-    at = 0
-    while at < len(net.questions):
-        net.exposed[at] = exposure(house, name, net, at)
-        if net.exposed[at] is None:
-            net.grow(at)
-        if len(net.questions) > MOST_REACHED:
+    def _exposure(self, code):
+        """The reason why a question is exposed, or None."""
+        question = self._codes.question_of(code)
+        if not is_shut(self._house, self._name, question):
+            return ("exposed", question)
+        pair = self._codes.met_only(code)
+        return None if pair is None else ("meets", question, pair)
+
+    def net(self, code):
+        """The net of what is reached from a question, as far as it is not exposed; None if this is too much."""
+        net = Net(self._codes)
+        net.mention(code)
+        at = 0
+        while at < len(net.listed):
+            net.ends[at] = self._exposure(net.listed[at])
+            if net.ends[at] is None:
+                net.grow(at)
+            if len(net.listed) > MOST_REACHED:
+                return None
+            at += 1
+        return net
+
+    def code_of(self, question):
+        """The code of the renamed form of a question."""
+        return self._codes.code_of(question)
+
+    def _settled(self, code):
+        """The (net, rounds) of a question that lasts, or None."""
+        net = self.net(code)
+        if net is None:
             return None
-        at += 1
-    return net
+        held, rounds = settled(net)
+        return None if 0 in held else (net, rounds)
+
+    def table(self, question):
+        """The lasting table for a question, or None if it does not last."""
+        code = self.code_of(question)
+        if code not in self._found:
+            found = self._settled(code)
+            self._found[code] = None if found is None else no_paper(found[0], found[1])
+        return self._found[code]
 
 
 def lasts(house, name, question):
@@ -39,20 +68,17 @@ def lasts(house, name, question):
 
 def lasting_table(house, name, question):
     """The lasting table for a question, or None if it does not last."""
-    net = net_of(house, name, question)
-    if net is None:
-        return None
-    held, rounds = settled(net)
-    return None if 0 in held else no_paper(net, rounds)
+    return Lasting(house, name).table(question)
 
 
 def why_not(house, name, question):
     """The reason why a question does not last, or None if it does."""
-    net = net_of(house, name, question)
+    asked = Lasting(house, name)
+    net = asked.net(asked.code_of(question))
     if net is None:
         return ("many",)
     held, _ = settled(net)
     if 0 not in held:
         return None
-    reasons = [reason for reason in net.exposed if reason is not None]
-    return reasons[0] if reasons else ("holds", net.questions[0])
+    reasons = [reason for reason in net.ends if reason is not None]
+    return reasons[0] if reasons else ("holds", net.question_at(0))

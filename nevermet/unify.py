@@ -27,10 +27,22 @@ def unify(ones, others):
     return fill
 
 
-def unlike(terms):
-    """A tuple of terms with new variables, which no tuple that is passed has."""
+def new_names(terms):
+    """The fill that gives a tuple of terms new variables, which no tuple that is passed has."""
     # No variable has a sign in front, so these names are new.
-    return filled_all(terms, {name: "-" + name for name in variables_in(terms)})
+    return {name: f"-{name}" for name in variables_in(terms)}
+
+
+def unlike(terms):
+    """A tuple of terms with new variables."""
+    return filled_all(terms, new_names(terms))
+
+
+def meeting_fills(ones, others):
+    """A fill for each of two tuples of terms that have a meet, so that both become equal."""
+    names = new_names(others)
+    fill = unify(ones, filled_all(others, names))
+    return fill, {name: filled(names[name], fill) for name in names}
 
 
 def meet(ones, others):

@@ -1,6 +1,7 @@
 """Which questions of a net are refuted, and which hold, with their answers and rounds.
 
-Of lasting questions the same is asked: one that lasts counts as refuted, and one that is exposed as one that holds.
+Of lasting questions the same is asked: one that lasts counts as refuted, and one that is exposed as one that holds. Of
+questions that are resolved, too: these count as ones that hold, also where they are wants.
 """
 
 from nevermet.rules import beneath
@@ -8,21 +9,21 @@ from nevermet.rules import beneath
 
 def users_of(net):
     """For each question the list of (question, place of a use), one for each condition that asks it."""
-    users = [[] for _ in net.questions]
+    users = [[] for _ in net.uses]
     for at, uses in enumerate(net.uses):
-        for place, use in enumerate(uses):
-            for number in use[2]:
+        for place, (_, _, asked) in enumerate(uses):
+            for number in asked:
                 users[number].append((at, place))
     return users
 
 
 def mark_rounds(net, users):
     """For each question of a mark that is refuted its round; None for the others."""
-    rounds = [None for _ in net.questions]
-    left = [len(uses) for uses in net.uses]
+    rounds = [None for _ in net.marks]
+    fresh = [at for at, mark in enumerate(net.marks) if mark and net.ends[at] is None and not net.uses[at]]
+    left = [len(uses) for uses in net.uses] if fresh else []
     stopped = {}
     count = 1
-    fresh = [at for at, mark in enumerate(net.marks) if mark and net.exposed[at] is None and not net.uses[at]]
     while fresh:
         later = []
         for at in fresh:
@@ -39,18 +40,23 @@ def mark_rounds(net, users):
     return rounds
 
 
-def begins(net, rounds, at):
-    """Whether a question holds, whatever other plain questions do."""
-    if net.marks[at]:
-        return rounds[at] is None
-    return net.exposed[at] is not None or any([not use[2] for use in net.uses[at]])
+def beginners(net, rounds):
+    """The list of the questions that hold, whatever other plain questions do."""
+    found = []
+    for at, uses in enumerate(net.uses):
+        if net.marks[at]:
+            if rounds[at] is None:
+                found.append(at)
+        elif net.ends[at] is not None or any([not asked for _, _, asked in uses]):
+            found.append(at)
+    return found
 
 
 def held_questions(net, users, rounds):
     """The dict of the questions that hold; a plain one stands behind all conditions of some rule that answers it."""
     held = {}
-    lacking = {(at, place): len(use[2]) for at, uses in enumerate(net.uses) for place, use in enumerate(uses)}
-    waiting = [at for at in range(len(net.questions)) if begins(net, rounds, at)]
+    lacking = {}
+    waiting = beginners(net, rounds)
     next_at = 0
     while next_at < len(waiting):
         at = waiting[next_at]
@@ -58,9 +64,10 @@ def held_questions(net, users, rounds):
         if at not in held:
             held[at] = True
             for user in users[at]:
-                lacking[user] -= 1
-                if lacking[user] == 0 and not net.marks[user[0]]:
-                    waiting.append(user[0])
+                one, place = user
+                lacking[user] = lacking.get(user, len(net.uses[one][place][2])) - 1
+                if lacking[user] == 0 and not net.marks[one]:
+                    waiting.append(one)
     return held
 
 
@@ -69,7 +76,7 @@ def settled(net):
     users = users_of(net)
     rounds = mark_rounds(net, users)
     held = held_questions(net, users, rounds)
-    return held, [None if at in held else rounds[at] or 0 for at in range(len(net.questions))]
+    return held, [None if at in held else count or 0 for at, count in enumerate(rounds)]
 
 
 def answering(net, held, at):
@@ -80,7 +87,7 @@ def answering(net, held, at):
 def lowest(uses):
     """The use of the rule that is beneath the rules of all other uses."""
     found = uses[0]
-    for use in uses:
+    for use in uses[1:]:
         if beneath(use[1], found[1]):
             found = use
     return found
@@ -92,13 +99,18 @@ def answer(net, held, at):
     return uses[0] if net.marks[at] else lowest(uses)
 
 
-def held_rounds(net, held):
-    """The dict of the rounds of the questions that hold."""
+def answers_of(net, held):
+    """The dict of the uses of the answers to all questions that hold."""
+    return {at: answer(net, held, at) for at in held}
+
+
+def held_rounds(net, answers):
+    """The dict of the rounds of the questions that hold, from their answers."""
     rounds = {}
-    for at in held:
+    for at in answers:
         if net.marks[at]:
             rounds[at] = 0
         else:
             # The conditions of the answer are conditions of each rule above it, so they stand before this question.
-            rounds[at] = 1 + max([rounds[number] for number in answer(net, held, at)[2]], default=0)
+            rounds[at] = 1 + max([rounds[number] for number in answers[at][2]], default=0)
     return rounds

@@ -9,6 +9,7 @@ from nevermet.asking import ask
 from nevermet.evidence import evidence
 from nevermet.functions import Function
 from nevermet.houses import House
+from nevermet.looks import look
 from nevermet.packages import Package
 from nevermet.parting import check_parted
 from nevermet.places import own_place
@@ -49,6 +50,13 @@ FUNCTIONS = {
     "tables": {"lasts": "(house, name, question)", "lasting_table": "(house, name, question)",
                "why_not": "(house, name, question)"},
     "tablecheck": {"check_table": "(house, name, question, thing)"},
+    "pairs": {"met_pairs": "(house, name)", "judged_pair": "(house, name, i, other)"},
+    "looks": {"look": "(house, name)", "is_let_by": "(house, name)", "need_let_by": "(house)"},
+    "lookcheck": {"check_look": "(house, name, papers)"},
+    "views": {"view": "(house, name)", "askable": "(house, name)"},
+    "joins": {"joined": "(*houses)", "shared": "(one, other)"},
+    "resolving": {"resolve": "(house, name, question, wants)",
+                  "check_resolved": "(house, name, question, wants, thing)", "wrong_steps": "(house, name)"},
     "words": {"named": "(package)", "wrong_words": "(house, name)", "wrong_forms": "(house, name)"},
     "errors": {"NeverError": None, "InvalidTerm": "(thing)", "InvalidRule": "(reason)", "InvalidFunction": "(reason)",
                "InvalidPackage": "(field, index)", "NoHouse": "(reason, name)", "Refused": "(complaints)",
@@ -140,13 +148,15 @@ class Examples(unittest.TestCase):
                           ("exposed", ("base.show", ("base.list", ("far.gem",))))])
 
     def test_looks(self):
-        """The complaint of the first example of the looks is one about forms; in the second one there is none."""
         twice = Package("twice", "base", sorts=[("gem", 0)], rules=[Rule(("base.show", ("base.list", ("twice.gem",))))])
         odd = Package("odd", "base", sorts=[("gem", 0)], traits=[("neat", 1, False, ())],
                       rules=[Rule(("odd.neat", "T"), ("base.show", "T")), Rule(("odd.neat", ("odd.gem",)))])
         self.assertEqual([wrong_words(House(base(), twice), "twice"), wrong_forms(House(base(), twice), "twice")],
                          [(), (("place", 0),)])
         self.assertEqual([wrong_words(House(base(), odd), "odd"), wrong_forms(House(base(), odd), "odd")], [(), ()])
+        self.assertEqual([look(House(base(), twice), "twice"), look(House(base(), odd), "odd")], [
+            ("refused", (("place", 0),)),
+            ("let by", ((1, ("odd", 0), ("apart", 1, 0, ((("base.show", ("odd.gem",)), 0, ()),))),))])
 
     def test_terms(self):
         row, number = Term.read("base.list(T)"), Term.read("base.int")
