@@ -6,6 +6,13 @@ from nevermet.reach import explored
 from nevermet.verdicts import answers_of, held_rounds, settled
 
 
+def entries_of(net, answers, rounds):
+    """The tuple of the entries for the first question of a net, from the answers and the rounds of what it needs."""
+    indexes = by_mention({at: answers[at][2] for at in answers})
+    return tuple([(net.question_at(at), rounds[at], answers[at][0], tuple([indexes[one] for one in answers[at][2]]))
+                  for at in indexes])
+
+
 def evidence(house, question, *, by=None):
     """The evidence for a ground question."""
     net = explored(house, question, by)
@@ -13,10 +20,7 @@ def evidence(house, question, *, by=None):
     if 0 not in held:
         raise NoAnswer(question)
     answers = answers_of(net, held)
-    rounds = held_rounds(net, answers)
-    indexes = by_mention({at: answers[at][2] for at in held})
-    return tuple([(net.question_at(at), rounds[at], answers[at][0], tuple([indexes[one] for one in answers[at][2]]))
-                  for at in indexes])
+    return entries_of(net, answers, held_rounds(net, answers))
 
 
 def round_of(house, question):

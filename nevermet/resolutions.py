@@ -1,9 +1,11 @@
 """What is resolved for a package with wants, and by which rules."""
 
 from nevermet.codes import Codes
+from nevermet.known import function_named
 from nevermet.nets import Net
 from nevermet.rules import beneath
 from nevermet.shut import is_shut
+from nevermet.terms import filled
 from nevermet.unify import have_meet
 from nevermet.verdicts import mark_rounds, users_of
 
@@ -66,7 +68,7 @@ def least_rounds(net):
 
 
 def wanting_net(house, name, questions, wants):
-    """The net of what is reached from some questions, where wants end; and the list of the indexes of the questions."""
+    """The net of what is reached from a list of questions, where wants end; and the list of their indexes in it."""
     usable = Usable(house, name)
     wanted = wants_by_code(usable.codes, wants)
     net = Net(usable.codes)
@@ -82,6 +84,26 @@ def wanting_net(house, name, questions, wants):
     return net, starts
 
 
+def step_questions(house, step):
+    """The list of the questions that must be resolved so that a step is."""
+    if step[0] == "ask":
+        return [step[1]]
+    function = function_named(house, step[1])
+    fill = dict(zip(function.variables, step[2:]))
+    return [filled(want, fill) for want in function.wants]
+
+
+def step_net(house, name, function):
+    """As `wanting_net`, for the questions of all steps of a function; the indexes are in a list for each step."""
+    asked = [step_questions(house, step) for step in function.body]
+    net, numbers = wanting_net(house, name, [question for questions in asked for question in questions], function.wants)
+    starts = []
+    for questions in asked:
+        starts.append(numbers[:len(questions)])
+        numbers = numbers[len(questions):]
+    return net, starts
+
+
 def first_use(net, rounds, at):
     """The use of the rule that resolves a question that is resolved, but no want."""
     for use in net.uses[at]:
@@ -89,3 +111,8 @@ def first_use(net, rounds, at):
             if net.marks[at] or rounds[at] == 1 + max([rounds[number] for number in use[2]], default=0):
                 return use
     return None
+
+
+def resolving_uses(net, rounds):
+    """The dict of the uses of the rules that resolve the questions that are resolved, wants left out."""
+    return {at: first_use(net, rounds, at) for at in rounds if net.ends[at] is None}

@@ -2,10 +2,8 @@
 
 from nevermet.errors import NoAnswer, TooMany
 from nevermet.kinds import is_index
-from nevermet.known import function_named
 from nevermet.papers import Paper, are_mentions, by_mention, is_round
-from nevermet.resolutions import Usable, first_use, least_rounds, wanting_net
-from nevermet.terms import filled
+from nevermet.resolutions import Usable, least_rounds, resolving_uses, step_net, wanting_net
 
 MOST_ENTRIES = 100
 
@@ -24,7 +22,7 @@ def resolve(house, name, question, wants):
     rounds = least_rounds(net)
     if 0 not in rounds:
         raise NoAnswer(question)
-    uses = {at: first_use(net, rounds, at) for at in rounds if net.ends[at] is None}
+    uses = resolving_uses(net, rounds)
     indexes = by_mention({at: uses[at][2] if at in uses else () for at in rounds})
     if len(indexes) > MOST_ENTRIES:
         raise TooMany(MOST_ENTRIES)
@@ -73,25 +71,12 @@ def check_resolved(house, name, question, wants, thing):
     return True
 
 
-def step_questions(house, step):
-    """The list of the questions that must be resolved so that a step is."""
-    if step[0] == "ask":
-        return [step[1]]
-    function = function_named(house, step[1])
-    fill = dict(zip(function.variables, step[2:]))
-    return [filled(want, fill) for want in function.wants]
-
-
 def wrong_steps(house, name):
     """The tuple of the complaints about steps; there must be no other complaints."""
     complaints = []
     for f, function in enumerate(house[name].functions):
-        wanted = [step_questions(house, step) for step in function.body]
-        net, starts = wanting_net(house, name, [one for questions in wanted for one in questions], function.wants)
+        net, starts = step_net(house, name, function)
         rounds = least_rounds(net)
-        unresolved = [start not in rounds for start in starts]
-        for s, questions in enumerate(wanted):
-            if any(unresolved[:len(questions)]):
-                complaints.append(("step", f, s))
-            unresolved = unresolved[len(questions):]
+        complaints.extend([("step", f, s) for s, numbers in enumerate(starts)
+                           if any([number not in rounds for number in numbers])])
     return tuple(complaints)

@@ -34,23 +34,23 @@ def trait_of(word):
     return word.rpartition(".")[0]
 
 
-def knows_member(house, names, word, many):
-    """Whether these packages declare the member of a trait that a member word names."""
+def is_member(house, word):
+    """Whether the house declares the member of a trait that a member word names."""
     trait, _, member = word.rpartition(".")
-    return is_declared(house, names, trait, TRAITS, many) and member in members_of(house, trait)
+    return house.sort_of(trait) in TRAITS and member in members_of(house, trait)
+
+
+def knows_piece(house, names, piece):
+    """Whether these packages declare the word or member word of a piece of a member expression, with so many parts."""
+    word, many = piece[0], len(piece) - 1
+    if is_member_word(word):
+        return is_declared(house, names, trait_of(word), TRAITS, many) and is_member(house, word)
+    return is_declared(house, names, word, SORTS, many)
 
 
 def knows_expression(house, names, expression):
     """Whether these packages declare all that a member expression names."""
-    for piece in walk((expression,)):
-        if isinstance(piece, tuple):
-            word, many = piece[0], len(piece) - 1
-            if is_member_word(word):
-                if not knows_member(house, names, word, many):
-                    return False
-            elif not is_declared(house, names, word, SORTS, many):
-                return False
-    return True
+    return all([isinstance(piece, str) or knows_piece(house, names, piece) for piece in walk((expression,))])
 
 
 def knows_rule(house, names, rule):
