@@ -17,39 +17,52 @@ class Codes:
         self._house = house
         self._names = names
         self._renames = renames
-        self._store = Store()
+        self.store = Store()
         self._rules = {}
         self._headed = {}
         self._marks = {}
+        self._right = {}
 
     def form(self, code):
         """The code of the renamed form, if this renames; otherwise the code itself."""
-        if not self._renames or self._store.are_ground(code[1:]):
+        if not self._renames or self.store.are_ground(code[1:]):
             return code
-        return (code[0], *self._store.renamed(code[1:]))
+        return (code[0], *self.store.renamed(code[1:]))
 
     def code_of(self, question):
         """The code of a question."""
-        return self.form((question[0], *[self._store.number_of(place) for place in question[1:]]))
+        return self.form((question[0], *[self.store.number_of(place) for place in question[1:]]))
+
+    def _is_right(self, thing):
+        """Whether any value is a word."""
+        if not isinstance(thing, str):
+            return False
+        if thing not in self._right:
+            self._right[thing] = is_word(thing)
+        return self._right[thing]
 
     def code_in(self, thing):
         """The code of any value that is a question, its terms of any size, as it is; None for any other value."""
-        if not isinstance(thing, tuple) or not 2 <= len(thing) <= 1 + MOST_PLACES or not is_word(thing[0]):
+        if not isinstance(thing, tuple) or not 2 <= len(thing) <= 1 + MOST_PLACES or not self._is_right(thing[0]):
             return None
-        numbers = [self._store.number_in(place) for place in thing[1:]]
+        numbers = [self.store.number_in(place) for place in thing[1:]]
         return None if None in numbers else (thing[0], *numbers)
 
     def question_of(self, code):
         """The question with a code."""
-        return (code[0], *[self._store.term(number) for number in code[1:]])
+        return (code[0], *[self.store.term(number) for number in code[1:]])
+
+    def heads(self, code):
+        """The list of the trait of a question and of its heads, None for a bare place."""
+        return [code[0], *[self.store.word_at(number) for number in code[1:]]]
 
     def is_ground(self, code):
         """Whether a question contains no variable."""
-        return self._store.are_ground(code[1:])
+        return self.store.are_ground(code[1:])
 
     def is_shallow(self, code):
         """Whether a question may be compared as it is."""
-        return self._store.are_shallow(code[1:])
+        return self.store.are_shallow(code[1:])
 
     def is_mark(self, code):
         """Whether the house has the trait of a question as a mark."""
@@ -66,7 +79,7 @@ class Codes:
 
     def _candidates(self, code):
         """The list of the rules whose first place may be that of a question."""
-        sign = self._store.sign(code[1])
+        sign = self.store.sign(code[1])
         key = (code[0], sign)
         if key not in self._headed:
             self._headed[key] = [row for row in self.rules_of(code[0])
@@ -75,10 +88,10 @@ class Codes:
 
     def needed(self, rule, code):
         """The tuple of the codes of the filled conditions of a rule for a question's trait; None if it does not fit."""
-        fill = self._store.fill_for(rule.places, code[1:])
+        fill = self.store.fill_for(rule.places, code[1:])
         if fill is None:
             return None
-        return tuple([self.form((condition[0], *[self._store.built(place, fill) for place in condition[1:]]))
+        return tuple([self.form((condition[0], *[self.store.built(place, fill) for place in condition[1:]]))
                       for condition in rule.conditions])
 
     def fitting(self, code):
@@ -103,10 +116,10 @@ class Codes:
     def met_only(self, code):
         """The pair of the first rule that meets a question without fitting it, or None."""
         # A rule that meets a question without variables fits it.
-        if self._store.are_ground(code[1:]):
+        if self.store.are_ground(code[1:]):
             return None
         for pair, rule in self.rules_of(code[0]):
-            if self._store.fill_for(rule.places, code[1:]) is None:
+            if self.store.fill_for(rule.places, code[1:]) is None:
                 if have_meet(self.question_of(code)[1:], rule.places):
                     return pair
         return None

@@ -61,7 +61,7 @@ def least_rounds(net):
                 lacking[user] = lacking.get(user, len(net.uses[one][place][2])) - 1
                 if lacking[user] == 0 and not net.marks[one]:
                     later.append(one)
-        fresh = [at for at in list({at: True for at in later}) if at not in rounds]
+        fresh = [at for at in list({number: True for number in later}) if at not in rounds]
         later = []
         count += 1
     return rounds

@@ -76,7 +76,7 @@ class Shelf:
     def __eq__(self, other):
         return isinstance(other, Shelf) and self._order == other._order
 
-    def _record(self, name, number):
+    def _edition_row(self, name, number):
         """What is kept of an edition."""
         if name not in self or not is_integer(number) or not 1 <= number <= len(self._editions[name]):
             raise NoEdition(name, number)
@@ -84,22 +84,23 @@ class Shelf:
 
     def package_at(self, name, number):
         """An edition of a package."""
-        return self._record(name, number)[0]
+        return self._edition_row(name, number)[0]
 
     def verdict(self, name, number):
         """What was returned when an edition was put."""
-        return self._record(name, number)[1]
+        return self._edition_row(name, number)[1]
 
     def noted(self, name, number):
         """The dict of the editions that are noted with an edition."""
-        return dict(self._record(name, number)[2])
+        return dict(self._edition_row(name, number)[2])
 
     def _with_seen(self, chosen):
         """The dict of some packages by their names, with the newest editions of all further packages that they see."""
         found = dict(chosen)
         waiting = list(chosen)
         while waiting:
-            for need in found[waiting.pop()].needs:
+            needs = found[waiting.pop()].needs
+            for need in needs:
                 if need not in found and need in self._editions:
                     found[need] = self[need]
                     waiting.append(need)

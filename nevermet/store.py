@@ -21,18 +21,20 @@ class Store:
 
     def _added(self, sign, parts, term):
         """The number of a term that has none yet, with its variable or word and the numbers of its parts."""
-        bare = isinstance(term, str)
-        self._numbers[(sign, parts)] = len(self._terms)
+        number = len(self._terms)
+        ground = not isinstance(term, str)
+        # A name such as V1000 in a renamed form stands in no paper, so it is never compared as it is.
+        deep = 0 if ground or is_variable(sign) else MOST_SHALLOW
+        for part in parts:
+            ground = ground and self._ground[part]
+            deep = max(deep, self._depths[part])
+        self._numbers[(sign, parts)] = number
         self._terms.append(term)
         self._signs.append(sign)
         self._parts.append(parts)
-        self._ground.append(not bare and all([self._ground[part] for part in parts]))
-        if bare and not is_variable(sign):
-            # Such as V1000 in a renamed form: no paper may contain it, so it is never compared as it is.
-            self._depths.append(MOST_SHALLOW + 1)
-        else:
-            self._depths.append(1 + max([self._depths[part] for part in parts], default=0))
-        return len(self._terms) - 1
+        self._ground.append(ground)
+        self._depths.append(deep + 1)
+        return number
 
     def _number(self, word, parts):
         """The number of the term with this word, and with parts that have these numbers."""
@@ -43,8 +45,12 @@ class Store:
 
     def number_of(self, term):
         """The number of a term of any size."""
+        return self._number_walked(walk((term,)))
+
+    def _number_walked(self, found):
+        """The number of a term, all pieces of which are given, each before its parts, from left to right."""
         held = []
-        for piece in walk((term,))[::-1]:
+        for piece in found[::-1]:
             sign, parts = piece, ()
             if isinstance(piece, tuple):
                 sign = piece[0]
@@ -67,14 +73,16 @@ class Store:
 
     def number_in(self, thing):
         """The number of any value that is a term of any size; None for any other value."""
+        found = []
         waiting = [thing]
         while waiting:
             one = waiting.pop()
             if not self._is_right_piece(one):
                 return None
+            found.append(one)
             if isinstance(one, tuple):
-                waiting.extend(one[1:])
-        return self.number_of(thing)
+                waiting.extend(one[:0:-1])
+        return self._number_walked(found)
 
     def term(self, number):
         """The term with a number."""
@@ -83,6 +91,18 @@ class Store:
     def sign(self, number):
         """The variable or the word of the term with a number."""
         return self._signs[number]
+
+    def parts(self, number):
+        """The tuple of the numbers of the parts of the term with a number."""
+        return self._parts[number]
+
+    def is_bare(self, number):
+        """Whether the term with a number is a variable."""
+        return isinstance(self._terms[number], str)
+
+    def word_at(self, number):
+        """The word of the term with a number, None for a variable."""
+        return None if isinstance(self._terms[number], str) else self._signs[number]
 
     def are_ground(self, numbers):
         """Whether the terms with these numbers contain no variable."""
@@ -123,19 +143,25 @@ class Store:
             return fill[term]
         return self._number(term[0], tuple([self.built(part, fill) for part in term[1:]]))
 
+    def _fits(self, one, number, fill):
+        """Whether a term of a rule can be the term with a number; the fill takes what its variables are then."""
+        if isinstance(one, str):
+            return fill.setdefault(one, number) == number
+        parts = self._parts[number]
+        if one[0] != self._signs[number] or len(one) != 1 + len(parts):
+            return False
+        # Terms of rules are not deep.
+        for at, part in enumerate(parts):
+            if not self._fits(one[at + 1], part, fill):
+                return False
+        return True
+
     def fill_for(self, ones, numbers):
         """The dict from variables to numbers that makes some terms those with the given numbers, or None."""
         if len(ones) != len(numbers):
             return None
         fill = {}
-        waiting = list(zip(ones, numbers))
-        while waiting:
-            one, number = waiting.pop()
-            if isinstance(one, str):
-                if fill.setdefault(one, number) != number:
-                    return None
-            elif one[0] != self._signs[number] or len(one) != 1 + len(self._parts[number]):
+        for one, number in zip(ones, numbers):
+            if not self._fits(one, number, fill):
                 return None
-            elif len(one) > 1:
-                waiting.extend(list(zip(one[1:], self._parts[number])))
         return fill
