@@ -1,6 +1,6 @@
 """Next editions, and whether they harm anybody."""
 
-from nevermet.errors import NoEdition, NotNext, Refused
+from nevermet.errors import NotNext, Refused
 from nevermet.looks import complaints_about
 from nevermet.strangers import Strangeness, tried_forms
 from nevermet.terms import head_of
@@ -70,8 +70,7 @@ def verdict_of(house, later, name):
 
 def judge(house, package):
     """The verdict about the next edition of a package of the house, and the notes about the rules that it adds."""
-    if package.name not in house:
-        raise NoEdition(package.name, 0)
+    # The house itself raises NoEdition if it has no such package.
     found = standing(house[package.name], package)
     if found is not None:
         raise NotNext(found[0], found[1])

@@ -155,17 +155,19 @@ class Shelf:
         return verdict, notes, {name: house[name].edition for name in house.sees(package.name)}
 
     def _drop(self, name):
-        """Drop the kept answers of the questions with a word whose owner is this package or sees it."""
+        """Drop the kept answers of the questions with a word whose owner is this package, which is there, or sees it.
+
+        Which packages see it does not depend on its own edition, so these are the same before and behind a change.
+        """
         if not self._answers:
             return
         concerned = [one for one in self._editions if name in self._with_seen({one: self[one]})]
         self._answers = {text: self._answers[text] for text in self._answers
-                         if not any([owner == name or owner in concerned for owner in self._answers[text][0]])}
+                         if not any([owner in concerned for owner in self._answers[text][0]])}
 
     def put(self, package):
         """Add an edition; returns the verdict about it."""
         verdict, _, noted = self.judged(package)
-        self._drop(package.name)
         self._order.append(package)
         self._editions.setdefault(package.name, []).append((package, verdict, noted))
         self._drop(package.name)
@@ -180,7 +182,6 @@ class Shelf:
         self._editions[package.name].pop()
         if not self._editions[package.name]:
             del self._editions[package.name]
-        self._drop(package.name)
         return package
 
     def put_all(self, packages):

@@ -42,7 +42,7 @@ def wide(head, full, place):
         if at > place:
             places.extend(numbered(1, count))
             count += 1
-        elif isinstance(term, str) or at == place:
+        elif isinstance(term, str):
             places.append(filled(term, full))
         else:
             places.append((term[0], *numbered(len(term) - 1, count)))

@@ -1,8 +1,8 @@
 """Terms as objects."""
 
-from nevermet.errors import InvalidTerm, InvalidText
+from nevermet.errors import InvalidTerm
 from nevermet.matching import is_instance
-from nevermet.parsing import spelled_whole
+from nevermet.reader import read_term
 from nevermet.terms import filled, is_constant, is_term, pieces, size, variables
 from nevermet.texts import term_text
 from nevermet.unify import meet
@@ -21,10 +21,7 @@ class Term:
     @classmethod
     def read(cls, text):
         """The object for the term that a text writes."""
-        term = spelled_whole(text) if isinstance(text, str) else None
-        if not is_term(term):
-            raise InvalidText(0)
-        return cls(term)
+        return cls(read_term(text))
 
     @property
     def shape(self):

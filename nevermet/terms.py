@@ -175,8 +175,3 @@ def filled_all(terms, fill):
 def renamed(terms):
     """The renamed form of a tuple of terms."""
     return filled_all(terms, {name: f"V{at}" for at, name in enumerate(variables_in(terms))})
-
-
-def renamed_question(question):
-    """The renamed form of a question."""
-    return (question[0], *renamed(question[1:]))

@@ -328,6 +328,7 @@ class Running(unittest.TestCase):
         self.assertEqual((error.name, error.edition), ("no", 0))
         for line, told in (("tell no", "tell.no"), ("tell twice", "tell.twice"), ("tell twice base.int base.int", "tell.twice"),
                            ("tell none base.no", "tell.none"), ("base show base.int", "base.show"), ("base int", "base.int"),
+                           ("base list base.aaa", "base.list"), ("base show base.aaa", "base.show"),
                            ("tell twice base.no", "base.no"), ("tell twice base.list", "base.list"), ("tell twice shop.item(shop.zed)", "shop.item"),
                            ("tell three shop.item shop.b base.zed", "base.zed"), ("tell three base.int box.bag base.list", "base.list"),
                            ("tell twice box.m(base.int)", "box.m")):

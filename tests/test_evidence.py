@@ -286,6 +286,12 @@ class Check(unittest.TestCase):
         self.assertEqual(bad(GOOD, put(3, n(A), 0, ("low", -3), (2,))), 3)
         self.assertEqual(bad(GOOD, put(3, n(A), 0, ("low", False), ())), 3)
 
+    def test_a_rule_for_another_trait(self):
+        """Its head would fit if it were for the trait of the question."""
+        house = alone(Rule(q("T")), Rule(p(B)), Rule(p("T")))
+        for rule, found in ((2, None), (0, 0), (1, 0)):
+            self.assertEqual(wrong_index(check_evidence, house, p(A), ((p(A), 1, ("low", rule), ()),)), found)
+
     def test_numbers(self):
         for thing in ((), (1,), (1, 2, 2), (2, 1), (1, 3), (1, 4), (1, -2), (-3, 2), (True, 2), (1, "2"), (1, None),
                       [1, 2], None, 1, (1, (2,)), (0, 2), (1, 10 ** 59), {1: 2}):

@@ -93,6 +93,7 @@ class Wrong(unittest.TestCase):
             self.assertEqual(reason("f", "T", body=thing), "body", thing)
         for thing in (None, True, "ask", (), [], {}, ("ask",), ("call",), list(ASK), list(CALL), ("ask", None), ("ask", "T"),
                       ("ask", INT), ("ask", ["base.show", "T"]), (*ASK, WANT), ("ask", "base.show", "T"), ("tell", WANT),
+                      ("tell", "base.tell", "T"), ("tell", "base.tell"), (None, "base.tell"), ("Call", "base.tell"),
                       ("Ask", WANT), (None, WANT), WANT, ("call", None), ("call", "tell"), ("call", "T"), ("call", INT),
                       ("call", "a.b.c"), ("call", "base.tell", "t"), ("call", "base.tell", "T", ["base.int"]),
                       ("call", "base.tell", "A", "A", "A", "A"), ("call", "base.tell", OVERFULL), ("call", ["base.tell"]),

@@ -136,6 +136,16 @@ class Settled(unittest.TestCase):
             both(both(INT, bag(INT)), bag(INT))])
         self.assertEqual(settle(HOUSE, item(item(item(bag(bag(bag(INT))))))), INT)
 
+    def test_what_stands_behind_in_a_term_of_three_parts(self):
+        """The parts that wait keep their order while an earlier one is replaced."""
+        house = House(base(), BOX, Package("big", sorts=[("three", 3)]))
+        def three(*parts):
+            return ("big.three", *parts)
+        end = ("box.end",)
+        one = three(item(bag(INT)), end, key(bag(end)))
+        self.assertEqual(list(settling(house, one)), [three(INT, end, key(bag(end))), three(INT, end, bag(end))])
+        self.assertEqual(settle(house, three(one, one, bag(INT))), three(three(INT, end, bag(end)), three(INT, end, bag(end)), bag(INT)))
+
     def test_the_answer_is_the_lowest_rule(self):
         self.assertEqual(settle(HOUSE, item(both(("box.end",), bag(listed(INT))))), INT)
         self.assertEqual(settle(HOUSE, item(both(INT, bag(listed(INT))))), listed(INT))

@@ -320,6 +320,13 @@ class Check(unittest.TestCase):
                        ("rule", "high", 0, ()), ("rule", "low", 5, ()), ("rules", "low", 1, (3,)), ("low", 1, (3,))):
             self.assertEqual(bad(put(1, q(f(T)), 1, reason)), 1, reason)
 
+    def test_a_rule_for_another_trait(self):
+        """Its head would fit if it were for the trait of the question."""
+        house = House(low(Rule(q(T)), Rule(p(T)), Rule(n(T))))
+        for rule, found in ((1, None), (0, 0), (2, 0)):
+            self.assertEqual(wrong_index(check_resolved, house, "low", p(f(T)), (), ((p(f(T)), 1, ("rule", "low", rule, ())),)),
+                             found)
+
     def test_rules_that_can_be_used(self):
         """The soft rule of q is not firm where the rule of q(f(T)) meets the question, or where it is not shut."""
         self.assertIsNone(bad(((q(A), 1, ("rule", "low", 5, ())),), question=q(A)))

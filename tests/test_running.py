@@ -104,6 +104,14 @@ class Asks(unittest.TestCase):
         self.assertEqual(run(house, "tell.gun", listed(c)), [
             evidence(house, ("tell.t", one)) for one in (listed(c), listed(c), c)])
 
+    def test_a_condition_that_needs_another_one(self):
+        """The round of the first condition goes by that of the second one."""
+        c = ("tell.c",)
+        rules = [Rule(("tell.t", listed(listed(T))), ("tell.t", listed(T)), ("tell.t", T)), Rule(("tell.t", listed(c)), ("tell.t", c)),
+                 Rule(("tell.t", c))]
+        house = tell(Function("fun", body=[("ask", ("tell.t", listed(listed(c))))]), rules=rules, sorts=[("c", 0)])
+        self.assertEqual([[entry[1] for entry in paper] for paper in run(house, "tell.fun")], [[3, 2, 1]])
+
     def test_answers_that_are_softer_above(self):
         """The rule that resolves is the answer: the hard one, or a soft one that is firm."""
         c, d = ("tell.c",), ("tell.d",)

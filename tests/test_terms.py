@@ -87,7 +87,8 @@ class Measures(unittest.TestCase):
     def test_size_and_depth(self):
         for term, symbols, deep in (("T", 1, 1), (INT, 1, 1), (listed("T"), 2, 2), (pair("T", "T"), 3, 2),
                                     (triple(INT, listed(listed("T")), pair("A", "B")), 8, 4), (FULL, 40, 4),
-                                    (pair(listed(listed(INT)), INT), 5, 4), (pair(INT, listed(listed(INT))), 5, 4)):
+                                    (pair(listed(listed(INT)), INT), 5, 4), (pair(INT, listed(listed(INT))), 5, 4),
+                                    (triple(listed(listed("V10")), "X999", "Y1"), 6, 4), ("V123", 1, 1)):
             self.assertEqual((size(term), depth(term)), (symbols, deep), term)
         self.assertEqual((size(tower(DEEP)), depth(tower(DEEP))), (DEEP + 1, DEEP + 1))
         self.assertEqual((size(term="T"), depth(term="T")), (1, 1))
