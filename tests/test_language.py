@@ -24,6 +24,9 @@ BARRED = re.compile(r"\b(type|typing|typing_extensions|enum|Enum|IntEnum|StrEnum
 UNUSED = set("""register mro elements open input law version_info with_traceback add_note attrgetter breakpoint compile
     copyright credits delattr dir eval exec exit gc getattr globals hasattr help id importlib license locals os quit
     setattr type vars sys""".split())
+RESERVED = re.compile(r"^_(cold|tuplegetter|outside|record|written_out|member_names)[0-9_]*$"
+                      r"|^_(wall|pe_|dcw_|enum_|cm_|twin_re_|lay_|law_|stub_|sre|WallAttr)")
+CHANGING = set("append clear extend insert pop remove reverse setdefault update sort add discard".split())
 NODES = (ast.Global, ast.AsyncFunctionDef, ast.Await, ast.AsyncFor, ast.AsyncWith, ast.Div, ast.MatMult, ast.Lambda,
          ast.GeneratorExp, ast.Import, ast.NamedExpr, ast.Match)
 """What the language bars, and what it allows but this package does without."""
@@ -64,6 +67,51 @@ def bound(tree):
                         if isinstance(node, ast.Name) and isinstance(node.ctx, ast.Store))
             yield from (node.name for node in ast.walk(function)
                         if isinstance(node, ast.FunctionDef) and node is not function)
+
+
+def names_of_comprehension(node):
+    """The variables of a comprehension."""
+    return {one.id for part in node.generators for one in ast.walk(part.target) if isinstance(one, ast.Name)} - {"_"}
+
+
+def own_names(tree):
+    """All names in a file: of variables, attributes, functions, classes and parameters."""
+    for node in ast.walk(tree):
+        if isinstance(node, ast.Name):
+            yield node.id
+        elif isinstance(node, ast.Attribute):
+            yield node.attr
+        elif isinstance(node, (ast.FunctionDef, ast.ClassDef)):
+            yield node.name
+        elif isinstance(node, ast.arg):
+            yield node.arg
+
+
+def gone_over(node):
+    """The texts of what a loop goes over, also through enumerate, zip and the views of a dict; copies do not count."""
+    if isinstance(node, ast.Call) and ast.unparse(node.func) in ("enumerate", "zip"):
+        return [text for one in node.args for text in gone_over(one)]
+    if isinstance(node, ast.Call) and isinstance(node.func, ast.Attribute) and node.func.attr in ("items", "keys", "values"):
+        return gone_over(node.func.value)
+    if isinstance(node, ast.IfExp):
+        return gone_over(node.body) + gone_over(node.orelse)
+    if isinstance(node, (ast.Attribute, ast.Subscript)):
+        return [ast.unparse(node)] + (gone_over(node.value) if ast.unparse(node.value) != "self" else [])
+    return [node.id] if isinstance(node, ast.Name) else []
+
+
+def changed_in(rows):
+    """The texts of what some statements change."""
+    for node in [node for row in rows for node in ast.walk(row)]:
+        if isinstance(node, ast.Call) and isinstance(node.func, ast.Attribute) and node.func.attr in CHANGING:
+            yield ast.unparse(node.func.value)
+        targets = node.targets if isinstance(node, (ast.Assign, ast.Delete)) else []
+        targets = [node.target] if isinstance(node, ast.AugAssign) else targets
+        for target in [one for target in targets for one in ast.walk(target)]:
+            if isinstance(target, ast.Subscript):
+                yield ast.unparse(target.value)
+            elif isinstance(target, ast.Attribute) and isinstance(target.ctx, ast.Store):
+                yield ast.unparse(target)
 
 
 class Text(unittest.TestCase):
@@ -132,6 +180,19 @@ class Names(unittest.TestCase):
             self.assertEqual(sorted(set(bound(tree)) & taken), [], name)
             self.assertEqual(sorted(set(defined(tree)) & (set(dir(builtins)) | UNUSED)), [], name)
 
+    def test_reserved_names(self):
+        for name, tree in trees():
+            self.assertEqual([one for one in own_names(tree) if RESERVED.match(one) or one in ("_wall", "_WallAttr")], [], name)
+
+    def test_names_in_comprehensions(self):
+        """A comprehension inside another one has names of its own."""
+        kinds = (ast.ListComp, ast.SetComp, ast.DictComp)
+        for name, tree in trees():
+            for outer in [node for node in ast.walk(tree) if isinstance(node, kinds)]:
+                taken = names_of_comprehension(outer)
+                for inner in [node for node in ast.walk(outer) if isinstance(node, kinds) and node is not outer]:
+                    self.assertEqual(sorted(taken & names_of_comprehension(inner)), [], (name, inner.lineno))
+
     def test_builtins(self):
         for name, tree in trees():
             own = set(defined(tree)) | set(imported(tree)) | set(bound(tree))
@@ -189,6 +250,23 @@ class Statements(unittest.TestCase):
                     self.assertNotIn(ast.unparse(node.value.func), ("zip", "enumerate", "range", "map"), name)
                 if isinstance(node, ast.Call) and isinstance(node.func, ast.Attribute) and node.func.attr == "extend":
                     self.assertNotRegex(ast.unparse(node.args[0]), r"^(zip|enumerate|range|map)\(", name)
+
+    def test_what_a_loop_goes_over_is_not_changed(self):
+        for name, tree in trees():
+            for node in [node for node in ast.walk(tree) if isinstance(node, ast.For)]:
+                self.assertEqual(sorted(set(gone_over(node.iter)) & set(changed_in(node.body))), [], (name, node.lineno))
+
+    def test_generators(self):
+        """No other function has the name of a generator, which is gone through at once."""
+        functions = [node for _, tree in trees() for node in ast.walk(tree) if isinstance(node, ast.FunctionDef)]
+        names = {node.name for node in functions if any(isinstance(one, (ast.Yield, ast.YieldFrom)) for one in ast.walk(node))}
+        self.assertEqual([name for name in sorted(names) if sum(node.name == name for node in functions) > 1], [])
+        for name, tree in trees():
+            for node in ast.walk(tree):
+                for child in ast.iter_child_nodes(node):
+                    if isinstance(child, ast.Call) and ast.unparse(child.func).split(".")[-1] in names:
+                        at_once = isinstance(node, (ast.For, ast.comprehension, ast.YieldFrom))
+                        self.assertTrue(at_once or isinstance(node, ast.Call) and ast.unparse(node.func) == "list", (name, child.lineno))
 
     def test_sets(self):
         """Sets are only sorted, counted and compared on the spot."""
