@@ -18,8 +18,8 @@ class Codes:
         self._names = names
         self._renames = renames
         self.store = Store()
-        self._rules = {}
-        self._headed = {}
+        self._by_trait = {}
+        self._by_sign = {}
         self._marks = {}
         self._right = {}
 
@@ -73,18 +73,18 @@ class Codes:
 
     def rules_of(self, trait):
         """The list of ((package, index), rule) for a trait, in order."""
-        if trait not in self._rules:
-            self._rules[trait] = [row for row in self._house.headed(trait) if row[0][0] in self._names]
-        return self._rules[trait]
+        if trait not in self._by_trait:
+            self._by_trait[trait] = [row for row in self._house.headed(trait) if row[0][0] in self._names]
+        return self._by_trait[trait]
 
     def _candidates(self, code):
         """The list of the rules whose first place may be that of a question."""
         sign = self.store.sign(code[1])
         key = (code[0], sign)
-        if key not in self._headed:
-            self._headed[key] = [row for row in self.rules_of(code[0])
-                                 if isinstance(row[1].head[1], str) or row[1].head[1][0] == sign]
-        return self._headed[key]
+        if key not in self._by_sign:
+            self._by_sign[key] = [row for row in self.rules_of(code[0])
+                                  if isinstance(row[1].head[1], str) or row[1].head[1][0] == sign]
+        return self._by_sign[key]
 
     def needed(self, rule, code):
         """The tuple of the codes of the filled conditions of a rule for a question's trait; None if it does not fit."""
@@ -118,8 +118,8 @@ class Codes:
         # A rule that meets a question without variables fits it.
         if self.store.are_ground(code[1:]):
             return None
+        places = self.question_of(code)[1:]
         for pair, rule in self.rules_of(code[0]):
-            if self.store.fill_for(rule.places, code[1:]) is None:
-                if have_meet(self.question_of(code)[1:], rule.places):
-                    return pair
+            if self.store.fill_for(rule.places, code[1:]) is None and have_meet(places, rule.places):
+                return pair
         return None

@@ -10,8 +10,8 @@ from nevermet.words import wrong_forms, wrong_words
 def judged_pairs(house, name):
     """The list of (i, (package, j), reason) for all pairs that are looked at and meet; the reason may be None."""
     lasting = Lasting(house, name)
-    return [(i, other, judged(lasting, house.rule(name, i), house.rule(other[0], other[1])))
-            for i, other in met_pairs(house, name)]
+    pairs = list(met_pairs(house, name))
+    return [(i, other, judged(lasting, house.rule(name, i), house.rule(other[0], other[1]))) for i, other in pairs]
 
 
 def look(house, name):

@@ -3,7 +3,7 @@
 from nevermet.codes import Codes
 from nevermet.nets import Net
 from nevermet.noes import no_paper
-from nevermet.shut import is_shut
+from nevermet.shut import is_shut_by
 from nevermet.verdicts import settled
 
 MOST_REACHED = 100
@@ -20,11 +20,10 @@ class Lasting:
 
     def _exposure(self, code):
         """The reason why a question is exposed, or None."""
-        question = self._codes.question_of(code)
-        if not is_shut(self._house, self._name, question):
-            return ("exposed", question)
+        if not is_shut_by(self._house, self._name, self._codes.heads(code)):
+            return ("exposed", self._codes.question_of(code))
         pair = self._codes.met_only(code)
-        return None if pair is None else ("meets", question, pair)
+        return None if pair is None else ("meets", self._codes.question_of(code), pair)
 
     def net(self, code):
         """The net of what is reached from a question, as far as it is not exposed; None if this is too much."""
