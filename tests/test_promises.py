@@ -86,7 +86,8 @@ class Editions(unittest.TestCase):
         self.assertTrue(all(found[one] > 20 for one in ("quiet", "yes", "hard", "lasting", "no")), found)
 
     def check_question(self, start, house, name, question, found):
-        table = lasting_table(start, name, question)
+        # A lasting no of a package is a no wherever this package has the same edition.
+        table = lasting_table(start, name, question) if house[name] == start[name] else None
         told = ask(start, question)
         if told is not None:
             self.assertTrue(holds(house, question))
@@ -99,7 +100,7 @@ class Editions(unittest.TestCase):
             self.assertTrue(check_refutation(house, question, refutation(house, question)))
             found["lasting"] += 1
         found["no"] += told is None
-        if table is not None and house[name] == start[name]:
+        if table is not None:
             self.assertIs(check_table(house, name, question, table), True)
 
     def test_any_order_of_quiet_editions(self):
