@@ -286,6 +286,16 @@ class Check(unittest.TestCase):
         self.assertEqual(bad(GOOD, put(3, n(A), 0, ("low", -3), (2,))), 3)
         self.assertEqual(bad(GOOD, put(3, n(A), 0, ("low", False), ())), 3)
 
+    def test_terms_of_three_parts(self):
+        """A term has no more parts; what is no term is no place of a question."""
+        house = House(Package("w", sorts=[("c", 0), ("h", 3)], traits=[("t", 1, False, ())], rules=[Rule(("w.t", "T"))]))
+        c, entry = ("w.c",), (1, ("w", 0), ())
+        whole = ("w.t", ("w.h", c, ("w.h", c, c, c), c))
+        self.assertEqual(evidence(house, whole), ((whole, *entry),))
+        self.assertIsNone(wrong_index(check_evidence, house, whole, ((whole, *entry), (("w.t", whole[1][2]), *entry))))
+        for term in (("w.h", c, c, c, c), ("w.h", c, c, ("w.h", c, c, c, c)), ("w.h", c, c, ["w.c"])):
+            self.assertEqual(wrong_index(check_evidence, house, whole, ((whole, *entry), (("w.t", term), *entry))), 1)
+
     def test_a_rule_for_another_trait(self):
         """Its head would fit if it were for the trait of the question."""
         house = alone(Rule(q("T")), Rule(p(B)), Rule(p("T")))
